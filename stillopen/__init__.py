@@ -1,0 +1,1 @@
+"""Stillopen: questions over streams of trees, and how much has to be kept."""

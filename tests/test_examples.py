@@ -1,0 +1,36 @@
+"""The examples of the document, section by section: each gives what stands there."""
+
+import doctest
+import os
+import unittest
+
+HERE = os.path.dirname(os.path.abspath(__file__))
+
+
+class Examples(unittest.TestCase):
+    def check_section(self, number, many):
+        result = doctest.testfile(os.path.join(HERE, f"examples_{number}.txt"), module_relative=False)
+        self.assertEqual((result.failed, result.attempted), (0, many))
+
+    def test_signs(self):
+        self.check_section(3, 3)
+
+    def test_streams_and_documents(self):
+        self.check_section(4, 6)
+
+    def test_questions(self):
+        self.check_section(5, 8)
+
+    def test_machines(self):
+        self.check_section(6, 7)
+
+    def test_compiled(self):
+        self.check_section(7, 8)
+
+    def test_readme(self):
+        result = doctest.testfile(os.path.join(os.path.dirname(HERE), "README.md"), module_relative=False)
+        self.assertEqual(result.failed, 0)
+
+
+if __name__ == "__main__":
+    unittest.main()

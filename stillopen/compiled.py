@@ -1,7 +1,7 @@
 """The machines of questions: what a row has to remember, so that its facts can be told."""
 
 from stillopen.errors import Refused, TooGreat
-from stillopen.facts import check_asked, check_question, only_used
+from stillopen.facts import JOINING, check_asked, check_question, of_joined, only_used
 from stillopen.machineforms import LABELS_MOST, TEXTS_MOST, WORDS_MOST
 from stillopen.reach import inner_states, machine_from, top_states
 
@@ -16,12 +16,8 @@ def _truths(facts, label, memory):
         word = fact[0]
         if word == "label":
             told.append(fact[1] == label)
-        elif word == "not":
-            told.append(not told[fact[1]])
-        elif word == "and":
-            told.append(told[fact[1]] and told[fact[2]])
-        elif word == "or":
-            told.append(told[fact[1]] or told[fact[2]])
+        elif word in JOINING:
+            told.append(of_joined(fact, told))
         else:
             told.append(memory[number] == SO_AT.get(word, fact[-1]))
     return tuple(told)
@@ -49,7 +45,7 @@ def _behind_element(facts, memory, truths):
 def _held_behind(fact, held, truths, number):
     """What a row remembers of one fact behind an element of which these facts are so."""
     word = fact[0]
-    if word in ("text", "label", "not", "and", "or"):
+    if word in ("text", "label") or word in JOINING:
         return held
     first = truths[fact[1]]
     if word == "child":

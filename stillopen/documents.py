@@ -2,7 +2,7 @@
 
 from stillopen.errors import BadForm, BadText
 from stillopen.streams import check_prefix, check_stream
-from stillopen.words import LABEL_MOST, LETTERS, TEXT_MOST, is_label, is_row_of, is_sequence, is_text
+from stillopen.words import TEXT_MOST, behind_letters, is_label, is_row_of, is_sequence, is_text
 
 
 def _is_text_node(value):
@@ -138,9 +138,7 @@ def _read_text(text, first):
 
 def _read_opening(text, first):
     """(the sign of an opening whose label begins at a place, the place behind), (None, first) if cut."""
-    at = first
-    while at < len(text) and text[at] in LETTERS and at - first < LABEL_MOST:
-        at += 1
+    at = behind_letters(text, first)
     if at == len(text):
         return None, first
     if text[at] != ">" or at == first:

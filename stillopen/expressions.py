@@ -10,7 +10,7 @@ PAIRS = ("next", "later")
 
 def checked(value, around):
     """An expression, so many others standing around it, as tuples; None for any value that is none."""
-    if around > AROUND_MOST or not is_sequence(value) or len(value) == 0 or not isinstance(value[0], str):
+    if around > AROUND_MOST or not is_sequence(value) or len(value) == 0:
         return None
     word = value[0]
     if word == "path" and len(value) == 2:
@@ -34,7 +34,7 @@ def _checked_steps(value, around):
 
 def _checked_step(value, around):
     """A step as tuples; None for any value that is none."""
-    if not is_sequence(value) or len(value) not in (3, 4) or not isinstance(value[0], str) or value[0] not in AXES:
+    if not is_sequence(value) or len(value) not in (3, 4) or value[0] not in AXES:
         return None
     if len(value) == 3:
         return tuple(value) if value[1] == "text" and _is_asked_text(value[2]) else None
@@ -42,7 +42,7 @@ def _checked_step(value, around):
     first = _checked_test(test, around)
     if first is None:
         return None
-    if isinstance(form, str) and form in PAIRS:
+    if form in PAIRS:
         second = _checked_test(other, around)
         return None if second is None else (axis, form, first, second)
     if other is not None or not _is_lone_form(axis, form):
@@ -59,7 +59,7 @@ def _is_lone_form(axis, value):
     """Whether any value is a form of steps with one test alone."""
     if is_number(value):
         return value == 1 or (value in (2, 3) and axis == "/")
-    return isinstance(value, str) and value in ENDS
+    return value in ENDS
 
 
 def _checked_test(value, around):

@@ -24,6 +24,9 @@ PARTS = {
     "or": ("f", "f"),
 }
 
+# The words of facts that are told by other facts of the same row.
+JOINING = ("not", "and", "or")
+
 
 def _is_part(sort, value, fact, ahead):
     """Whether any value can stand in a fact, ahead of which so many stand, as a part of this sort."""
@@ -138,6 +141,15 @@ def _of_inner(fact, number, inner):
     return many % fact[2] == fact[3]
 
 
+def of_joined(fact, told):
+    """Whether a fact that joins others is so, told being whether those ahead are."""
+    if fact[0] == "not":
+        return not told[fact[1]]
+    if fact[0] == "and":
+        return told[fact[1]] and told[fact[2]]
+    return told[fact[1]] or told[fact[2]]
+
+
 def _of_row(facts, label, texts, inner):
     """By fact whether it is so of a row inside an element of a label, by its texts and its elements' facts."""
     told = []
@@ -148,12 +160,8 @@ def _of_row(facts, label, texts, inner):
             told.append(many >= fact[2])
         elif word == "label":
             told.append(label == fact[1])
-        elif word == "not":
-            told.append(not told[fact[1]])
-        elif word == "and":
-            told.append(told[fact[1]] and told[fact[2]])
-        elif word == "or":
-            told.append(told[fact[1]] or told[fact[2]])
+        elif word in JOINING:
+            told.append(of_joined(fact, told))
         else:
             told.append(_of_inner(fact, number, inner))
     return tuple(told)

@@ -12,7 +12,7 @@ TEXT_CODE = 2
 
 def _sign_fault(value):
     """What BadSign tells of a value, None of a sign."""
-    if not is_sequence(value) or len(value) == 0 or not isinstance(value[0], str):
+    if not is_sequence(value) or len(value) == 0:
         return -1
     if value[0] == "close" and len(value) == 1:
         return None
@@ -152,7 +152,7 @@ def healing(octets):
     head = ()
     if rest == (OPEN_CODE,):
         head = (1,)
-    elif rest[0] == TEXT_CODE and len(rest) < 3:
+    elif rest[0] == TEXT_CODE:
         head = (0,) * (3 - len(rest))
     _, end = _head_at(rest + head, 0)
     return head + (0,) * (end - len(rest) - len(head))

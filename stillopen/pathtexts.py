@@ -2,7 +2,7 @@
 
 from stillopen.errors import BadText
 from stillopen.expressions import AROUND_MOST
-from stillopen.words import LABEL_MOST, LETTERS, TEXT_MOST
+from stillopen.words import TEXT_MOST, behind_letters
 
 PAIR_SIGNS = {"next": "+", "later": "~"}
 PAIR_FORMS = {"+": "next", "~": "later"}
@@ -144,9 +144,7 @@ def _read_test(text, at, around):
 
 def _read_label(text, first):
     """(the label that begins at a place, the place behind it)."""
-    behind = first
-    while behind < len(text) and text[behind] in LETTERS and behind - first < LABEL_MOST:
-        behind += 1
+    behind = behind_letters(text, first)
     if behind == first:
         raise BadText(first)
     return text[first:behind], behind

@@ -14,9 +14,12 @@ def _put_new(news, states, numbers):
             states.append(state)
 
 
-def inner_states(steps, most):
-    """The states that inner rows come to; if these are more than most, more than most of them."""
-    starts, text_steps, child_step = steps
+def _all_states(steps, most, behind_elements):
+    """The states that rows come to; if these are more than most, more than most of them.
+
+    behind_elements tells of a state, and of those that were told of ahead and itself, states behind elements.
+    """
+    starts, text_steps, _ = steps
     states = []
     numbers = {}
     _put_new(starts, states, numbers)
@@ -24,26 +27,27 @@ def inner_states(steps, most):
     while at < len(states) <= most:
         state = states[at]
         at += 1
-        read = states[:at]
         _put_new(text_steps(state), states, numbers)
-        for other in read:
-            _put_new((child_step(state, other), child_step(other, state)), states, numbers)
+        _put_new(behind_elements(state, states[:at]), states, numbers)
     return states
+
+
+def inner_states(steps, most):
+    """The states that inner rows come to; if these are more than most, more than most of them."""
+    child_step = steps[2]
+
+    def behind_elements(state, told):
+        """The states behind elements that a state and one that was told of lead to, either in the other."""
+        pairs = [(child_step(state, other), child_step(other, state)) for other in told]
+        return [behind for pair in pairs for behind in pair]
+
+    return _all_states(steps, most, behind_elements)
 
 
 def top_states(steps, children, most):
     """The states that top rows come to, told likewise, where elements end in these children."""
-    starts, text_steps, child_step = steps
-    states = []
-    numbers = {}
-    _put_new(starts, states, numbers)
-    at = 0
-    while at < len(states) <= most:
-        state = states[at]
-        at += 1
-        _put_new(text_steps(state), states, numbers)
-        _put_new([child_step(child, state) for child in children], states, numbers)
-    return states
+    child_step = steps[2]
+    return _all_states(steps, most, lambda state, _: [child_step(child, state) for child in children])
 
 
 def _maps(steps, states, children):

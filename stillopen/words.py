@@ -32,6 +32,14 @@ def is_label(value):
     return all(letter in LETTERS for letter in value)
 
 
+def behind_letters(text, first):
+    """The place behind the letters, from a place in a text on, that can stand in one label."""
+    behind = first
+    while behind < len(text) and text[behind] in LETTERS and behind - first < LABEL_MOST:
+        behind += 1
+    return behind
+
+
 def is_text(value):
     """Whether any value is a string of at most 65,535 characters."""
     return isinstance(value, str) and len(value) <= TEXT_MOST

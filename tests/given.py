@@ -76,12 +76,15 @@ TEXTS = ("", "t", "u", "a b")
 def some_document(chance, nodes=8, deep=4, labels=LABELS, texts=TEXTS):
     """A document of at most so many nodes, at most so many elements one within another."""
     left = [chance.randint(0, nodes)]
+    going_on = chance.choice((0.6, 0.75, 0.9))
+    of_texts = chance.choice((0.1, 0.35, 0.6))
+    deep = chance.randint(1, deep)
 
     def row(level):
         made = []
-        while left[0] > 0 and chance.random() < 0.75:
+        while left[0] > 0 and chance.random() < going_on:
             left[0] -= 1
-            if level == deep or chance.random() < 0.35:
+            if level == deep or chance.random() < of_texts:
                 made.append(("text", chance.choice(texts)))
             else:
                 made.append(("element", chance.choice(labels), row(level + 1)))

@@ -1,5 +1,6 @@
 """[19] to [21]: the machines of questions."""
 
+import itertools
 import unittest
 
 from stillopen.compiled import compiled, compiled_all
@@ -157,6 +158,16 @@ class Meanings(Case):
                 for _ in range(4):
                     question = TWO + (fact,) + more
                     self.assertEqual(self.check_machine_of(chance, question, (len(question) - 1, 2)), 1)
+
+    def test_all_short_rows(self):
+        inner = (("element", "a", ()), ("element", "b", ()), ("text", "t"), ("element", "b", (("element", "a", ()),)))
+        rows = [row for many in range(5) for row in itertools.product(inner, repeat=many)]
+        question = TWO + (("later", 0, 0), ("later", 0, 1), ("next", 0, 0), ("next", 1, 0), ("next", 1, 1), ("first", 0),
+                          ("last", 0), ("inside", 0), ("modulo", 0, 3, 1), ("child", 1, 2), ("text", None, 2))
+        for asked in ((2, 3), (4,), (5, 6), (7, 8), (9,), (10,), (11, 12)):
+            machine = compiled_all(question, asked)
+            for row in rows:
+                self.assertEqual(answer(machine, row), meanings(question, asked, row))
 
     def test_of_expressions(self):
         chance = seeded(23)

@@ -79,7 +79,8 @@ class Documents(Case):
     def test_both_ways(self):
         chance = seeded(8)
         for _ in range(300):
-            document = some_document(chance, 14, texts=("", '"', "\\", "a\\\"", "\n<a>"))
+            words = ("a", "open", "close", "text", "element")
+            document = some_document(chance, 14, labels=words, texts=words + ("", '"', "\\", "a\\\"", "\n<a>"))
             signs = signs_of(as_lists(document))
             self.assertEqual(check_stream(signs), signs)
             self.assertEqual(document_of(signs), document)
@@ -88,7 +89,7 @@ class Documents(Case):
             self.assertEqual(height(document), deepest(document))
             self.assertEqual(markup_of(document), markup(signs))
             self.assertEqual(from_text(markup(signs)), document)
-            prefix = some_prefix(chance, 12)
+            prefix = some_prefix(chance, 12, words, words)
             stream = prefix + closing(depth(prefix))
             self.assertEqual(signs_of(document_of(stream)), stream)
 
@@ -158,7 +159,7 @@ class Markup(Case):
     def test_cut_and_bent(self):
         chance = seeded(81)
         for _ in range(40):
-            signs = some_prefix(chance, 8, labels=("a", "ab", "abcdefghijkl"), texts=("", '"', "\\\\", "<a>"))
+            signs = some_prefix(chance, 8, labels=("a", "close", "abcdefghijkl"), texts=("", '"', "\\\\", "<a>", "open"))
             text = markup(signs)
             ends = [len(markup(signs[:many])) for many in range(len(signs) + 1)]
             for cut in range(len(text) + 1):

@@ -160,6 +160,8 @@ class Reading(Case):
             self.assertLess(read_signs(octets + more[:many])[1], len(octets) + many)
 
     def test_cut_and_bent(self):
+        for sign in itertools.product(("open", "text"), ("open", "text", "close")):
+            self.assertEqual(read_signs(sign_octets(sign)), ((sign,), len(sign_octets(sign))))
         signs = (("open", "ab"), ("text", "zZ\n"), ("close",), ("text", ""), ("open", "abcdefghijkl"), ("text", "x" * 258))
         octets = write_signs(signs)
         ends = [0]

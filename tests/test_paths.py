@@ -222,6 +222,15 @@ class Holds(Case):
                 self.assertIs(path_holds(expression, document), told, path_text(expression))
                 self.assertIs(meaning(question, document), told, path_text(expression))
 
+    def test_names_of_questions(self):
+        for text, labels, texts in (("/a/*", {"a"}, set()), ("//*[/b]", {"b"}, set()), ("/*/^c", {"c"}, set()), ('/*/"u"', set(), {"u"}),
+                                    ("/*[not (/# or /*+d)]", {"d"}, set()), ("(/* and /e)", {"e"}, set()),
+                                    ("/*~f", {"f"}, set()), ("/f~*", {"f"}, set()), ('(/* and //"t")', set(), {"t"}),
+                                    ("(/a[/b]~c and (/d or not /e[/f]/*))", set("abcdef"), set())):
+            question = question_of(read_path(text))
+            self.assertEqual({fact[1] for fact in question if fact[0] == "label"}, labels)
+            self.assertEqual({fact[1] for fact in question if fact[0] == "text"} - {None}, texts)
+
     def test_great(self):
         wide = tuple(el("b") if at % 2 else el("a", el("b")) for at in range(150))
         tower = ()

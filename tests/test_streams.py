@@ -9,7 +9,7 @@ from stillopen.streams import (
 )
 from given import ANY_VALUES, Case, as_lists, seeded, some_prefix
 
-A, B, T, END = ("open", "a"), ("open", "b"), ("text", "t"), ("close",)
+A, B, T, END = ("open", "a"), ("open", "close"), ("text", "open"), ("close",)
 NO_NUMBERS = (None, -1, True, False, "0", "", (0,), [0], -(10 ** 30))
 OF_PREFIXES = (check_prefix, check_stream, depth, depths, open_labels, lambda value: node_behind(value, None))
 
@@ -73,8 +73,9 @@ class Prefixes(Case):
 
     def test_open_labels(self):
         self.assertEqual(open_labels(()), ())
-        self.assertEqual(open_labels((A, B, T)), ("a", "b"))
-        self.assertEqual(open_labels((B, A, END, ["open", "c"], ("open", "d"), END)), ("b", "c"))
+        self.assertEqual(open_labels((A, B, T)), ("a", "close"))
+        self.assertEqual(open_labels((B, A, END, ["open", "c"], ("open", "d"), END)), ("close", "c"))
+        self.assertEqual(open_labels((("open", "text"), ("text", "close"), ("open", "open"))), ("text", "open"))
         self.assertEqual(open_labels((A, END)), ())
 
     def test_node_behind(self):

@@ -250,6 +250,8 @@ class Holds(Case):
                 self.assertIs(self.assertWithin(3, meaning, question, document), told)
         long = '/"' + "x" * 1990 + '"'
         self.assertEqual(path_text(read_path(long)), long)
+        long = "/a" * 500 + "[//b]" * 200
+        self.assertEqual(self.assertWithin(3, path_text, self.assertWithin(3, read_path, long)), long)
 
 
 class Texts(Case):
@@ -312,7 +314,8 @@ class Texts(Case):
 
     def test_cut_and_bent(self):
         grammar = Grammar()
-        for text in ("/a[/b+*]$", '(/# or not //"t"[')[:2] + ("//*~b[/^c]/d{3}", "/ab+c/#", 'not (/a{2} and //"t")', "/^a[//b$][/c]/d"):
+        for text in ("/a[/b+*]$", '(/# or not //"t")', "//*~b[/^c]/d{3}", "/ab+c/#", 'not (/a{2} and //"t")',
+                     "/^a[//b$][/c]/d"):
             for cut in range(len(text) + 1):
                 self.check_text(grammar, text[:cut])
                 for sign in 'abnot/*#"^$[]{}23+~() dr1A':

@@ -1,0 +1,103 @@
+"""The interface: names, arguments, and the files in which they are defined; [2]: equal calls, arguments left alone."""
+
+import copy
+import importlib
+import inspect
+import unittest
+
+from stillopen import errors
+from given import Case, as_lists
+
+INTERFACE = {
+    "words": {"is_label": "value", "is_text": "value"},
+    "forms": {"check_sign": "value", "is_sign": "value", "sign_octets": "sign", "write_signs": "signs",
+              "sign_at": "octets at", "read_signs": "octets", "healing": "octets"},
+    "streams": {"check_prefix": "value", "check_ending": "depth value", "check_stream": "value",
+                "is_ending": "depth value", "is_stream": "value", "depth": "prefix", "open_labels": "prefix",
+                "depths": "prefix", "closing": "depth", "node_behind": "prefix at"},
+    "documents": {"check_document": "value", "count_nodes": "document", "height": "document", "signs_of": "document",
+                  "document_of": "stream", "markup": "prefix", "markup_of": "document", "read_markup": "text",
+                  "from_text": "text"},
+    "facts": {"check_question": "value", "row_facts": "question label document", "meaning": "question document",
+              "meanings": "question asked document"},
+    "paths": {"check_expression": "value", "path_holds": "expression document", "question_of": "expression",
+              "path_text": "expression", "read_path": "text"},
+    "machines": {"check_machine": "value", "kind_of": "names value", "other_label": "machine", "other_text": "machine",
+                 "answer": "machine document", "widened": "machine labels texts", "not_of": "machine",
+                 "all_of": "machine", "any_of": "machine", "chosen": "machine places", "trimmed": "machine",
+                 "side_by_side": "machine other"},
+    "compiled": {"compiled_all": "question asked *most=200", "compiled": "question *most=200"},
+}
+ERRORS = ("OpenError BadOctets BadForm BadSign BadStream BadQuestion BadMachine BadText Refused TooGreat Broken NoFact "
+          "NoState NoLabel").split()
+
+SIGNS = (("open", "a"), ("text", "t"), ("close",))
+DOCUMENT = (("element", "a", (("text", "t"),)), ("text", "u"))
+QUESTION = (("label", "a"), ("text", "t", 1), ("and", 0, 1), ("inside", 2))
+MACHINE = (("a",), (), (2, 0, ((0, 1),), ((0, 1), (1, 1)), ((False,), (True,))), (2, (1, 0), ((0, 1),), ((0, 1), (1, 1))))
+PATH = ("path", (("/", "next", ("a", (("path", (("//", "text", None),)),)), (None, ())),))
+GIVEN = {"sign": SIGNS[0], "signs": SIGNS, "octets": (0, 1, 1, 2), "at": 1, "prefix": SIGNS, "stream": SIGNS, "depth": 0,
+         "document": DOCUMENT, "question": QUESTION, "asked": (3, 0), "label": "a", "expression": PATH, "machine": MACHINE,
+         "other": MACHINE, "labels": ("a", "b"), "texts": ("t",), "places": (0, 0), "names": ("a", "c")}
+VALUES = {"words": "a", "forms": SIGNS[1], "streams": SIGNS, "documents": DOCUMENT, "facts": QUESTION, "paths": PATH,
+          "machines": MACHINE}
+TEXT_OF = {"documents": '"x"<a></a>', "paths": "/a[/b]"}
+
+
+def told_of(function):
+    """The arguments of a function, as INTERFACE tells them."""
+    told = []
+    for one in inspect.signature(function).parameters.values():
+        ahead = "*" if one.kind is one.KEYWORD_ONLY else ""
+        told.append(ahead + one.name + ("" if one.default is one.empty else f"={one.default}"))
+    return " ".join(told)
+
+
+def arguments_for(module, name):
+    """By name the arguments of an ordinary call."""
+    if name == "kind_of":
+        return {"names": GIVEN["names"], "value": "c"}
+    names = [word for word in INTERFACE[module][name].split() if not word.startswith("*")]
+    return {word: VALUES[module] if word == "value" else TEXT_OF[module] if word == "text" else GIVEN[word] for word in names}
+
+
+class Interface(Case):
+    def functions(self):
+        for module, listed in INTERFACE.items():
+            for name in listed:
+                yield module, name, getattr(importlib.import_module("stillopen." + module), name)
+
+    def test_names_and_arguments(self):
+        for module, name, function in self.functions():
+            self.assertEqual(function.__module__, "stillopen." + module, name)
+            self.assertEqual(told_of(function), INTERFACE[module][name], name)
+        for name in ERRORS:
+            self.assertEqual(getattr(errors, name).__module__, "stillopen.errors")
+
+    def test_by_position_by_name_lists_and_tuples(self):
+        for module, name, function in self.functions():
+            given = arguments_for(module, name)
+            told = function(**given)
+            self.assertTuples(told)
+            lists = {word: as_lists(value) for word, value in given.items()}
+            kept = copy.deepcopy(lists)
+            for again in (function(*given.values()), function(**lists), function(*lists.values())):
+                self.assertEqual(again, told, name)
+                self.assertIs(type(again), type(told))
+                self.assertTuples(again)
+            self.assertEqual(lists, kept, name)
+
+    def test_equal_calls_do_not_mix_bools_and_numbers(self):
+        from stillopen.facts import check_question, meanings
+        from stillopen.forms import read_signs
+        self.assertEqual(read_signs((1, 1, 0)), ((("open", "a"),), 3))
+        self.assertFails(errors.BadOctets, 0, read_signs, (True, 1, 0))
+        self.assertEqual(read_signs((1, 1, 0)), ((("open", "a"),), 3))
+        self.assertEqual(check_question((("text", None, 1),)), (("text", None, 1),))
+        self.assertFails(errors.BadQuestion, 0, check_question, (("text", None, True),))
+        self.assertEqual(meanings(QUESTION, (1,), DOCUMENT), (False,))
+        self.assertFails(errors.NoFact, True, meanings, QUESTION, (True,), DOCUMENT)
+
+
+if __name__ == "__main__":
+    unittest.main()

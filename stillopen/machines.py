@@ -147,11 +147,16 @@ def _top_steps(machine):
     return _part_steps((start,), texts, children)
 
 
+def come_to(machine):
+    """(the inner states, the top states) that rows come to, of a machine that was checked."""
+    inner = inner_states(_inner_steps(machine), STATES_MOST)
+    return inner, top_states(_top_steps(machine), inner, STATES_MOST)
+
+
 def trimmed(machine):
     """A machine that answers alike and names the same, of those states alone that rows come to."""
     checked = check_machine(machine)
-    inner = inner_states(_inner_steps(checked), STATES_MOST)
-    top = top_states(_top_steps(checked), inner, STATES_MOST)
+    inner, top = come_to(checked)
     answers = [checked[2][4][state] for state in top]
     return machine_from(checked[:2], (_inner_steps(checked), inner), (_top_steps(checked), top), answers)
 

@@ -6,7 +6,7 @@ behind this element.
 """
 
 
-def _put_new(news, states, numbers):
+def put_new(news, states, numbers):
     """Puts those states behind the others that are not yet among them."""
     for state in news:
         if state not in numbers:
@@ -22,13 +22,13 @@ def _all_states(steps, most, behind_elements):
     starts, text_steps, _ = steps
     states = []
     numbers = {}
-    _put_new(starts, states, numbers)
+    put_new(starts, states, numbers)
     at = 0
     while at < len(states) <= most:
         state = states[at]
         at += 1
-        _put_new(text_steps(state), states, numbers)
-        _put_new(behind_elements(state, states[:at]), states, numbers)
+        put_new(text_steps(state), states, numbers)
+        put_new(behind_elements(state, states[:at]), states, numbers)
     return states
 
 

@@ -5,7 +5,7 @@ from stillopen.forms import is_sign
 from stillopen.words import is_number, is_number_below, is_sequence
 
 
-def _read_levels(value, ahead):
+def read_levels(value, ahead):
     """(the signs as tuples, how many levels are open behind them), so many being open ahead."""
     if not is_sequence(value):
         raise BadStream(-1)
@@ -30,7 +30,7 @@ def _step_of(sign):
 
 def _read_whole(value, ahead):
     """The signs as tuples, which leave no level open."""
-    signs, level = _read_levels(value, ahead)
+    signs, level = read_levels(value, ahead)
     if level > 0:
         raise BadStream(len(signs))
     return signs
@@ -38,7 +38,7 @@ def _read_whole(value, ahead):
 
 def check_prefix(value):
     """The prefix as tuples; BadStream for any value that is none."""
-    signs, _ = _read_levels(value, 0)
+    signs, _ = read_levels(value, 0)
     return signs
 
 
@@ -81,7 +81,7 @@ def closing(depth):
 
 def depth(prefix):
     """How many levels a prefix leaves open."""
-    _, level = _read_levels(prefix, 0)
+    _, level = read_levels(prefix, 0)
     return level
 
 

@@ -4,7 +4,7 @@ import random
 import time
 import unittest
 
-from stillopen.errors import BadSign, NoFact, OpenError
+from stillopen.errors import BadMachine, BadSign, NoFact, OpenError
 
 
 def nested(value, deep):
@@ -14,6 +14,7 @@ def nested(value, deep):
     return value
 
 
+ANY_MACHINE = (("a",), (), (1, 0, ((0,),), ((0,),), ((True,),)), (1, (0, 0), ((0,),), ((0,),)))
 ANY_VALUES = (
     0, 1, 2, 3, -1, 255, 256, 10 ** 40, -(10 ** 40), True, False, None,
     "", "a", "open", "text", "close", "element", "path", "not", "\udc80\u00e9\U0001f600\0", "/", "<a>", "x" * 70000,
@@ -22,7 +23,7 @@ ANY_VALUES = (
     ("element", "a", ()), [("element", "a", [None])], [("element", "a", ())], ("path", ()), ("path", [("/", 1)]),
     ("not", ("not", None)), ("and", None, None), ("or", ("path", [("/", "text", None)])), [("label", "a")],
     [("text", None, True)], (("not", 0),), [("child", 0, 1)], ((), (), (), ()), [[], [], [], []],
-    (("a",), (), (1, 0, ((0,),), ((0,),), ((True,),)), (1, (0, 0), ((0,),), ((0,),))),
+    ANY_MACHINE,
     OpenError(), BadSign(1), [NoFact(None)], ("open", OpenError()), (BadSign(0), "a"),
     nested("a", 40), nested(("open", "a"), 38), nested(10 ** 30, 40), nested(("element", "a", ()), 38), nested((), 39),
 )
@@ -55,6 +56,15 @@ class Case(unittest.TestCase):
         if isinstance(value, tuple):
             for part in value:
                 self.assertTuples(part)
+
+    def assertMachineFirst(self, call):
+        """The call, of a machine, raises BadMachine of each value that is none, whatever comes behind it."""
+        for at, value in NO_MACHINES:
+            self.assertFails(BadMachine, at, call, value)
+        for value in ANY_VALUES:
+            if value != ANY_MACHINE:
+                with self.assertRaises(BadMachine):
+                    call(value)
 
     def assertWithin(self, seconds, call, *given, **more):
         """The call takes no longer; gives what it returns."""
@@ -162,6 +172,112 @@ def some_machine(chance, labels=("a",), texts=("t",), inner=3, top=3, words=1):
     answers = tuple(tuple(chance.random() < 0.5 for _ in range(words)) for _ in range(top))
     tops = (top, chance.randrange(top), maps(len(texts) + 1, top), maps(inner, top), answers)
     return labels, texts, tops, (inner, states(len(labels) + 1, inner), maps(len(texts) + 1, inner), maps(inner, inner))
+
+
+def read_plainly(machine, document):
+    """The answer of a machine, told by recursion straight from [15], [16]."""
+    labels, texts, tops, inners = machine
+
+    def kind(names, value):
+        return names.index(value) if value in names else len(names)
+
+    def row(state, part, nodes):
+        for node in nodes:
+            if node[0] == "text":
+                state = part[2][kind(texts, node[1])][state]
+            else:
+                state = part[3][row(inners[1][kind(labels, node[1])], inners, node[2])][state]
+        return state
+
+    return tops[4][row(tops[1], tops, document)]
+
+
+def disguised(chance, machine, inner, top, labels=(), texts=()):
+    """A machine of so many states that answers alike, each of its states doing as one of the machine's."""
+    old_labels, old_texts, tops, inners = machine
+    labels = tuple(sorted({*old_labels, *labels}))
+    texts = tuple(sorted({*old_texts, *texts}))
+
+    def kinds(old, names):
+        return [old.index(name) if name in old else len(old) for name in names] + [len(old)]
+
+    def copies(many, all_many):
+        likes = list(range(many)) + [chance.randrange(many) for _ in range(all_many - many)]
+        chance.shuffle(likes)
+        return likes
+
+    def some_like(likes, state):
+        return chance.choice([new for new, old in enumerate(likes) if old == state])
+
+    like, like_top = copies(inners[0], inner), copies(tops[0], top)
+    inner_texts = tuple(tuple(some_like(like, inners[2][k][old]) for old in like) for k in kinds(old_texts, texts))
+    inner_rows = tuple(tuple(some_like(like, inners[3][child][old]) for old in like) for child in like)
+    top_texts = tuple(tuple(some_like(like_top, tops[2][k][old]) for old in like_top) for k in kinds(old_texts, texts))
+    top_rows = tuple(tuple(some_like(like_top, tops[3][child][old]) for old in like_top) for child in like)
+    starts = tuple(some_like(like, inners[1][k]) for k in kinds(old_labels, labels))
+    answers = tuple(tops[4][old] for old in like_top)
+    new_top = (top, some_like(like_top, tops[1]), top_texts, top_rows, answers)
+    return labels, texts, new_top, (inner, starts, inner_texts, inner_rows)
+
+
+def great_machine(many, words=1, turn=7):
+    """A machine of so many inner and top states, all of which are come to."""
+    step = tuple((state + 1) % many for state in range(many))
+    rows = tuple(tuple((state * turn + child) % many for state in range(many)) for child in range(many))
+    answers = tuple(tuple(state % (word + 2) == 0 for word in range(words)) for state in range(many))
+    return ("a",), ("t",), (many, 0, (step, step), rows, answers), (many, (0, 1), (step, step), rows)
+
+
+def turning_machine(many):
+    """A machine that counts texts up to so many, then from nothing again, in inner and in top rows."""
+    step = tuple((state + 1) % many for state in range(many))
+    rest = tuple(range(many))
+    answers = tuple((state == 0,) for state in range(many))
+    return (), (), (many, 0, (step,), (rest,) * many, answers), (many, (0,), (step,), (rest,) * many)
+
+
+HAS = (("a",), (), (2, 0, ((0, 1),), ((0, 1), (1, 1)), ((False,), (True,))), (2, (1, 0), ((0, 1),), ((0, 1), (1, 1))))
+ONE = ((), (), (1, 0, ((0,),), ((0,),), ((True,),)), (1, (0,), ((0,),), ((0,),)))
+NO_MACHINES = ((-1, None), (-1, HAS[:3]), (0, (("A",),) + HAS[1:]), (1, HAS[:1] + ((None,),) + HAS[2:]),
+               (3, HAS[:3] + ((),)), (2, HAS[:2] + ((),) + HAS[3:]), (3, HAS[:2] + ((), ())))
+
+
+ALL_DOCUMENTS = {}
+
+
+def documents_of(many, labels=("a", "b"), texts=("t", "u")):
+    """All documents of just so many signs, with these labels and texts."""
+    told = (many, labels, texts)
+    if told not in ALL_DOCUMENTS:
+        found = [()] if many == 0 else []
+        if many > 0:
+            found += [(("text", text),) + rest for text in texts for rest in documents_of(many - 1, labels, texts)]
+        for inside in range(many - 1):
+            for row in documents_of(inside, labels, texts):
+                for rest in documents_of(many - 2 - inside, labels, texts):
+                    found += [(("element", label, row),) + rest for label in labels]
+        ALL_DOCUMENTS[told] = found
+    return ALL_DOCUMENTS[told]
+
+
+def plain_signs(document):
+    """The stream of a document, told by recursion."""
+    signs = ()
+    for node in document:
+        signs += (node,) if node[0] == "text" else (("open", node[1]),) + plain_signs(node[2]) + (("close",),)
+    return signs
+
+
+def endings_of(depth, many, labels=("a", "b"), texts=("t", "u")):
+    """All endings of a depth of just so many signs."""
+    if depth == 0:
+        return [plain_signs(document) for document in documents_of(many, labels, texts)]
+    found = []
+    for inside in range(many):
+        forests = [plain_signs(document) for document in documents_of(inside, labels, texts)]
+        rests = endings_of(depth - 1, many - 1 - inside, labels, texts)
+        found += [forest + (("close",),) + rest for forest in forests for rest in rests]
+    return found
 
 
 def seeded(number):

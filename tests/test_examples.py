@@ -27,6 +27,15 @@ class Examples(unittest.TestCase):
     def test_compiled(self):
         self.check_section(7, 8)
 
+    def test_least_machines(self):
+        self.check_section(8, 6)
+
+    def test_forests(self):
+        self.check_section(9, 4)
+
+    def test_endings(self):
+        self.check_section(10, 6)
+
     def test_readme(self):
         result = doctest.testfile(os.path.join(os.path.dirname(HERE), "README.md"), module_relative=False)
         self.assertEqual(result.failed, 0)

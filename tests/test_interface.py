@@ -27,6 +27,16 @@ INTERFACE = {
                  "all_of": "machine", "any_of": "machine", "chosen": "machine places", "trimmed": "machine",
                  "side_by_side": "machine other"},
     "compiled": {"compiled_all": "question asked *most=200", "compiled": "question *most=200"},
+    "alike": {"least_documents": "machine", "least_apart": "machine other", "are_alike": "machine other",
+              "least_beyond": "machine other", "least_with": "machine place word", "parts": "machine other document"},
+    "leastmachines": {"least_machine": "machine", "is_least": "machine"},
+    "lots": {"inner_maps": "machine", "results": "machine", "top_maps": "machine", "inner_reached": "machine",
+             "top_reached": "machine", "inner_forest": "machine made", "top_forest": "machine made",
+             "element_to": "machine state"},
+    "stacks": {"check_stack": "machine value", "first_stack": "machine", "after": "machine stack sign",
+               "after_all": "machine stack signs", "stack_of": "machine prefix", "answer_by": "machine stack ending"},
+    "likeness": {"pair_lots": "machine one other", "alike": "machine one other", "parting": "machine one other",
+                 "parting_holds": "machine one other value"},
 }
 ERRORS = ("OpenError BadOctets BadForm BadSign BadStream BadQuestion BadMachine BadText Refused TooGreat Broken NoFact "
           "NoState NoLabel").split()
@@ -38,9 +48,11 @@ MACHINE = (("a",), (), (2, 0, ((0, 1),), ((0, 1), (1, 1)), ((False,), (True,))),
 PATH = ("path", (("/", "next", ("a", (("path", (("//", "text", None),)),)), (None, ())),))
 GIVEN = {"sign": SIGNS[0], "signs": SIGNS, "octets": (0, 1, 1, 2), "at": 1, "prefix": SIGNS, "stream": SIGNS, "depth": 0,
          "document": DOCUMENT, "question": QUESTION, "asked": (3, 0), "label": "a", "expression": PATH, "machine": MACHINE,
-         "other": MACHINE, "labels": ("a", "b"), "texts": ("t",), "places": (0, 0), "names": ("a", "c")}
+         "other": MACHINE, "labels": ("a", "b"), "texts": ("t",), "places": (0, 0), "names": ("a", "c"), "place": 0, "word": True, "made": (0, 1), "state": 1, "stack": (0, 1),
+         "ending": (("close",),), "one": (0, 0), "most": 100}
 VALUES = {"words": "a", "forms": SIGNS[1], "streams": SIGNS, "documents": DOCUMENT, "facts": QUESTION, "paths": PATH,
-          "machines": MACHINE}
+          "machines": MACHINE, "stacks": (0, 1), "likeness": (("close",),)}
+OTHER = {"likeness": (0, 1)}
 TEXT_OF = {"documents": '"x"<a></a>', "paths": "/a[/b]"}
 
 
@@ -58,7 +70,8 @@ def arguments_for(module, name):
     if name == "kind_of":
         return {"names": GIVEN["names"], "value": "c"}
     names = [word for word in INTERFACE[module][name].split() if not word.startswith("*")]
-    return {word: VALUES[module] if word == "value" else TEXT_OF[module] if word == "text" else GIVEN[word] for word in names}
+    given = dict(GIVEN, value=VALUES.get(module), text=TEXT_OF.get(module), other=OTHER.get(module, MACHINE))
+    return {word: given[word] for word in names}
 
 
 class Interface(Case):

@@ -30,6 +30,7 @@ NO_WORDS = set(
 AT_ONCE = ("zip", "enumerate", "reversed", "range")
 VIEWS = ("items", "keys", "values")
 TAKERS = ("list", "tuple", "dict", "sorted", "sum", "any", "all", "enumerate", "zip", "min", "max", "len", "reversed")
+LIBRARY = {"heapq": {"heappush", "heappop"}}
 NODES = (
     ast.Global, ast.AsyncFunctionDef, ast.AsyncFor, ast.AsyncWith, ast.Await, ast.Yield, ast.YieldFrom, ast.Div, ast.MatMult,
     ast.Set, ast.SetComp, ast.NamedExpr, ast.JoinedStr, ast.Nonlocal, ast.With, ast.Match, ast.AnnAssign, ast.Starred,
@@ -111,6 +112,9 @@ class Language(unittest.TestCase):
         for one, part in parts(ast.ImportFrom):
             self.assertIn(part, one.tree.body)
             self.assertEqual(part.level, 0)
+            if part.module in LIBRARY:
+                self.assertLessEqual({alias.name for alias in part.names}, LIBRARY[part.module])
+                continue
             package, module = part.module.split(".")
             self.assertEqual(package, "stillopen")
             there = BY_NAME[module + ".py"]
@@ -126,8 +130,8 @@ class Language(unittest.TestCase):
             self.assertEqual(kinds, sorted(kinds, reverse=True), one.name)
 
     def test_no_turn_of_imports(self):
-        ahead = {one.name: {part.module.split(".")[1] + ".py" for part in one.tree.body if isinstance(part, ast.ImportFrom)}
-                 for one in FILES}
+        ahead = {one.name: {part.module.split(".")[1] + ".py" for part in one.tree.body
+                            if isinstance(part, ast.ImportFrom) and part.module not in LIBRARY} for one in FILES}
         while ahead:
             free = [name for name, needed in ahead.items() if not needed & set(ahead)]
             self.assertTrue(free, ahead)

@@ -6,10 +6,11 @@ from stillopen.errors import BadForm, BadMachine, Refused
 from stillopen.machines import (
     all_of, answer, any_of, check_machine, chosen, kind_of, not_of, other_label, other_text, side_by_side, trimmed, widened,
 )
-from given import ANY_VALUES, Case, as_lists, seeded, some_document, some_machine
+from given import (
+    ANY_VALUES, HAS, ONE, Case, as_lists, great_machine, read_plainly, seeded, some_document, some_machine,
+    turning_machine,
+)
 
-HAS = (("a",), (), (2, 0, ((0, 1),), ((0, 1), (1, 1)), ((False,), (True,))), (2, (1, 0), ((0, 1),), ((0, 1), (1, 1))))
-ONE = ((), (), (1, 0, ((0,),), ((0,),), ((True,),)), (1, (0,), ((0,),), ((0,),)))
 SIX = ("a", "b", "c", "d", "e", "f")
 NO_NAMES = (None, 3, "ab", True, ("b", "a"), ("a", "a"), (1,), (None,), (True,), (("a",),))
 OF_MACHINES = (
@@ -21,24 +22,6 @@ OF_MACHINES = (
 
 def el(label, *row):
     return ("element", label, row)
-
-
-def read(machine, document):
-    """The answer, told by recursion straight from [15], [16]."""
-    labels, texts, tops, inners = machine
-
-    def kind(names, value):
-        return names.index(value) if value in names else len(names)
-
-    def row(state, part, nodes):
-        for node in nodes:
-            if node[0] == "text":
-                state = part[2][kind(texts, node[1])][state]
-            else:
-                state = part[3][row(inners[1][kind(labels, node[1])], inners, node[2])][state]
-        return state
-
-    return tops[4][row(tops[1], tops, document)]
 
 
 def come_to(machine):
@@ -62,22 +45,6 @@ def with_part(machine, path, value):
     parts = list(machine)
     parts[path[0]] = with_part(parts[path[0]], path[1:], value)
     return tuple(parts)
-
-
-def great_machine(many, words=1, turn=7):
-    """A machine of so many inner and top states, all of which are come to."""
-    step = tuple((state + 1) % many for state in range(many))
-    rows = tuple(tuple((state * turn + child) % many for state in range(many)) for child in range(many))
-    answers = tuple(tuple(state % (word + 2) == 0 for word in range(words)) for state in range(many))
-    return ("a",), ("t",), (many, 0, (step, step), rows, answers), (many, (0, 1), (step, step), rows)
-
-
-def turning_machine(many):
-    """A machine that counts texts up to so many, then from nothing again, in inner and in top rows."""
-    step = tuple((state + 1) % many for state in range(many))
-    rest = tuple(range(many))
-    answers = tuple((state == 0,) for state in range(many))
-    return (), (), (many, 0, (step,), (rest,) * many, answers), (many, (0,), (step,), (rest,) * many)
 
 
 class Checks(Case):
@@ -179,8 +146,8 @@ class Answers(Case):
             machine = some_machine(chance, names[0], names[1], chance.randint(1, 4), chance.randint(1, 4), chance.randint(1, 3))
             for _ in range(8):
                 document = some_document(chance, 12)
-                self.assertEqual(answer(machine, document), read(machine, document))
-                self.assertEqual(answer(as_lists(machine), as_lists(document)), read(machine, document))
+                self.assertEqual(answer(machine, document), read_plainly(machine, document))
+                self.assertEqual(answer(as_lists(machine), as_lists(document)), read_plainly(machine, document))
 
     def test_errors_in_order(self):
         self.assertFails(BadMachine, 0, answer, with_part(HAS, (0,), None), None)
@@ -192,7 +159,7 @@ class Answers(Case):
         row = ()
         for _ in range(18):
             row = (el("a", *row),) + (("text", "t"),) * 10
-        self.assertEqual(self.assertWithin(3, answer, machine, row), read(machine, row))
+        self.assertEqual(self.assertWithin(3, answer, machine, row), read_plainly(machine, row))
 
 
 class Others(Case):

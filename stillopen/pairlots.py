@@ -1,0 +1,60 @@
+"""Lots of pairs of states in which the rows of two stacks can stand behind like endings, level by level."""
+
+from stillopen.machines import come_to
+
+
+def _spread(pairs, maps):
+    """Ascending all pairs to which maps, one behind another, lead these pairs."""
+    todo = list(pairs)
+    found = {}
+    while todo:
+        pair = todo.pop()
+        if pair not in found:
+            found[pair] = True
+            todo.extend([(row[pair[0]], row[pair[1]]) for row in maps])
+    return tuple(sorted(found))
+
+
+class PairLots:
+    """The lots of a machine that was checked; each is told once, and then kept.
+
+    A lot is an ascending tuple of pairs. None is what is within the innermost level: nothing.
+    """
+
+    def __init__(self, machine):
+        inner, top = come_to(machine)
+        _, _, tops, inners = machine
+        self.machine = machine
+        self.inner_states = tuple(sorted(inner))
+        self.top_states = tuple(sorted(top))
+        self.inner_maps = inners[2] + tuple([inners[3][child] for child in self.inner_states])
+        self.top_maps = tops[2] + tuple([tops[3][child] for child in self.inner_states])
+        self.inner_lots = {}
+        self.top_lots = {}
+
+    def inner_lot(self, within, state, other):
+        """The lot of two inner rows in these states, behind all that is within and any forest."""
+        told = (within, state, other)
+        if told not in self.inner_lots:
+            pairs = self._behind(within, state, other, self.machine[3][3])
+            self.inner_lots[told] = _spread(pairs, self.inner_maps)
+        return self.inner_lots[told]
+
+    def top_lot(self, within, state, other):
+        """The lot of two top rows in these states, likewise."""
+        told = (within, state, other)
+        if told not in self.top_lots:
+            pairs = self._behind(within, state, other, self.machine[2][3])
+            self.top_lots[told] = _spread(pairs, self.top_maps)
+        return self.top_lots[told]
+
+    def _behind(self, within, state, other, children):
+        """The pairs behind what ends in the pairs within, or that of both states where nothing is within."""
+        if within is None:
+            return [(state, other)]
+        return [(children[one][state], children[two][other]) for one, two in within]
+
+    def are_alike(self, within, state, other):
+        """Whether no pair of the top lot answers unlike."""
+        answers = self.machine[2][4]
+        return all([answers[one] == answers[two] for one, two in self.top_lot(within, state, other)])

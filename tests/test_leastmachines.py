@@ -2,14 +2,19 @@
 
 import unittest
 
+from stillopen.compiled import compiled
+from stillopen.facts import meaning
 from stillopen.leastmachines import is_least, least_machine
 from stillopen.machines import check_machine, not_of, trimmed, widened
+from stillopen.paths import question_of, read_path
 from given import (
     HAS, ONE, Case, as_lists, disguised, documents_of, great_machine, read_plainly, seeded, some_document, some_machine,
+    some_question,
 )
 
 NAMES = ((), ("a",), ("a", "b"), ("b", "c"))
 STRINGS = ((), ("t",), ("", "t"))
+PATHS = ("//a/b", '//a/"t"', "//a/b/a", '//a[/"t"]/b', "//a//b", "//a[/b{2}]", "//a/b$", "//^a/b+a", "/a[not /b]", '//a/b/"t"')
 
 
 def parted(machine):
@@ -129,6 +134,23 @@ class LeastMachines(Case):
             other = disguised(chance, machine, inner, top, chance.choice(NAMES), chance.choice(STRINGS))
             self.assertEqual(least_machine(other), least_machine(machine))
             self.assertEqual(least_machine(as_lists(other)), least_machine(machine))
+
+    def test_of_questions(self):
+        # Such machines have states that only children within children, or texts within elements, part.
+        chance = seeded(87)
+        for at in range(150):
+            if at < len(PATHS):
+                question = question_of(read_path(PATHS[at]))
+            else:
+                question = some_question(chance, chance.randint(1, 5), ("a", "b"), ("t",))
+            machine = compiled(question)
+            if machine[2][0] + machine[3][0] > 60:
+                continue
+            least = least_machine(machine)
+            self.assertLeast(least)
+            for _ in range(20):
+                document = some_document(chance, 8, 4, ("a", "b", "c"), ("t", "u"))
+                self.assertEqual(read_plainly(least, document), (meaning(question, document),))
 
     def test_of_unlike_machines(self):
         lasts = [least_machine(machine) for _, machine in some_machines(300, 84)]

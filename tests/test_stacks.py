@@ -69,6 +69,14 @@ class Stacks(Case):
         self.assertMachineFirst(lambda value: stack_of(value, None))
         self.assertFails(Refused, (0, 1), check_stack, ONE, (0, 1))
 
+    def test_unlike_counts_of_states(self):
+        for inner, top in ((2, 3), (3, 2)):
+            machine = some_machine(seeded(113), ("a",), (), inner, top)
+            for stack in ((top - 1,), (top - 1, inner - 1), (0, inner - 1, 0, inner - 1)):
+                self.assertEqual(check_stack(machine, stack), stack)
+            for stack in ((top,), (top, 0), (0, inner), (0, 0, inner), (0, inner, 0)):
+                self.assertFails(Refused, stack, check_stack, machine, stack)
+
     def test_wrong_signs(self):
         for at, sign in NO_SIGNS:
             self.assertFails(BadSign, at, after, HAS, (0,), sign)

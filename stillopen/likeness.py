@@ -20,13 +20,13 @@ def _checked(machine, one, other):
 
 def _lots(machine, one, other):
     """The lots of pairs of two stacks, by level, from the innermost out."""
-    pairs = PairLots(machine)
+    beside = PairLots(machine)
     lots = []
     within = None
     for state, state_too in reversed(list(zip(one[1:], other[1:]))):
-        within = pairs.inner_lot(within, state, state_too)
-        lots.append(within)
-    lots.append(pairs.top_lot(within, one[0], other[0]))
+        within = beside.inner_lot(within, state, state_too)
+        lots.append(beside.pairs[within])
+    lots.append(beside.top_lot(within, one[0], other[0]))
     return tuple(lots)
 
 

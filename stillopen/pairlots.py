@@ -16,7 +16,7 @@ def _spread(pairs, maps):
 
 
 class PairLots:
-    """The lots of a machine that was checked; each is told once, and then kept.
+    """The lots of a machine that was checked, inner ones by numbers; what was told once is kept.
 
     A lot is an ascending tuple of pairs. None is what is within the innermost level: nothing.
     """
@@ -27,34 +27,39 @@ class PairLots:
         self.machine = machine
         self.inner_states = tuple(sorted(inner))
         self.top_states = tuple(sorted(top))
-        self.inner_maps = inners[2] + tuple([inners[3][child] for child in self.inner_states])
-        self.top_maps = tops[2] + tuple([tops[3][child] for child in self.inner_states])
-        self.inner_lots = {}
-        self.top_lots = {}
+        self.inner_maps = inners[2] + tuple([inners[3][child] for child in inner])
+        self.top_maps = tops[2] + tuple([tops[3][child] for child in inner])
+        self.pairs = []
+        self.numbers = {}
+        self.led = {}
+        self.likenesses = {}
 
     def inner_lot(self, within, state, other):
-        """The lot of two inner rows in these states, behind all that is within and any forest."""
+        """The number of the lot of two inner rows in these states, behind all that is within and any forest."""
         told = (within, state, other)
-        if told not in self.inner_lots:
-            pairs = self._behind(within, state, other, self.machine[3][3])
-            self.inner_lots[told] = _spread(pairs, self.inner_maps)
-        return self.inner_lots[told]
+        if told not in self.led:
+            lot = _spread(self._closed(within, state, other, self.machine[3][3]), self.inner_maps)
+            if lot not in self.numbers:
+                self.numbers[lot] = len(self.pairs)
+                self.pairs.append(lot)
+            self.led[told] = self.numbers[lot]
+        return self.led[told]
 
     def top_lot(self, within, state, other):
         """The lot of two top rows in these states, likewise."""
-        told = (within, state, other)
-        if told not in self.top_lots:
-            pairs = self._behind(within, state, other, self.machine[2][3])
-            self.top_lots[told] = _spread(pairs, self.top_maps)
-        return self.top_lots[told]
-
-    def _behind(self, within, state, other, children):
-        """The pairs behind what ends in the pairs within, or that of both states where nothing is within."""
-        if within is None:
-            return [(state, other)]
-        return [(children[one][state], children[two][other]) for one, two in within]
+        return _spread(self._closed(within, state, other, self.machine[2][3]), self.top_maps)
 
     def are_alike(self, within, state, other):
         """Whether no pair of the top lot answers unlike."""
-        answers = self.machine[2][4]
-        return all([answers[one] == answers[two] for one, two in self.top_lot(within, state, other)])
+        told = (within, state, other)
+        if told not in self.likenesses:
+            answers = self.machine[2][4]
+            pairs = self.top_lot(within, state, other)
+            self.likenesses[told] = all([answers[one] == answers[two] for one, two in pairs])
+        return self.likenesses[told]
+
+    def _closed(self, within, state, other, children):
+        """The pairs behind what ends in the pairs within, or that of both states where nothing is within."""
+        if within is None:
+            return [(state, other)]
+        return [(children[one][state], children[two][other]) for one, two in self.pairs[within]]

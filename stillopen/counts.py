@@ -67,7 +67,8 @@ def _leading_on(steps, tops):
     told = [len(row) > 0 for row in tops]
     todo = [state for state, is_told in enumerate(told) if is_told]
     while todo:
-        for state in ahead[todo.pop()]:
+        led = todo.pop()
+        for state in ahead[led]:
             if not told[state]:
                 told[state] = True
                 todo.append(state)
@@ -81,8 +82,8 @@ def _lots_of_words(steps, tops):
     while many < max(lots) + 1:
         many = max(lots) + 1
         numbers = {}
-        told = [(tops[state], tuple([(letter, lots[behind]) for letter, behind in row])) for state, row in enumerate(steps)]
-        lots = [numbers.setdefault(one, len(numbers)) for one in told]
+        led = [tuple([(letter, lots[behind]) for letter, behind in row]) for row in steps]
+        lots = [numbers.setdefault(told, len(numbers)) for told in zip(tops, led)]
     return lots
 
 
@@ -96,7 +97,8 @@ def _least_reader(steps, tops):
     rows = []
     while len(rows) < len(states):
         row = []
-        for letter, behind in kept[states[len(rows)]]:
+        led = states[len(rows)]
+        for letter, behind in kept[led]:
             if lots[behind] not in numbers:
                 numbers[lots[behind]] = len(states)
                 states.append(behind)

@@ -11,8 +11,8 @@ def _lots_beside(beside, stack):
     """By level, from the innermost out, the lots within it that come about with stacks beside this one."""
     lots = [[None]]
     for state in reversed(stack[1:]):
-        found = set([beside.inner_lot(within, state, other) for within in lots[-1] for other in beside.inner_states])
-        lots.append(sorted(found))
+        found = [beside.inner_lot(within, state, other) for within in lots[-1] for other in beside.inner_states]
+        lots.append(sorted(set(found)))
     return lots
 
 

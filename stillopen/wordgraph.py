@@ -19,10 +19,11 @@ def led_to(nexts, firsts):
     """By state whether some of the first ones leads there, by steps, none or more."""
     told = [False] * len(nexts)
     todo = list(firsts)
-    for state in firsts:
-        told[state] = True
+    for first in firsts:
+        told[first] = True
     while todo:
-        for behind in nexts[todo.pop()]:
+        state = todo.pop()
+        for behind in nexts[state]:
             if not told[behind]:
                 told[behind] = True
                 todo.append(behind)
@@ -71,7 +72,8 @@ def lots_of(nexts, kept):
         lot = [first]
         todo = [first]
         while todo:
-            news = [state for state in ahead[todo.pop()] if not taken[state]]
+            last = todo.pop()
+            news = [state for state in ahead[last] if not taken[state]]
             for state in news:
                 taken[state] = True
             lot.extend(news)

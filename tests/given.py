@@ -280,6 +280,18 @@ def endings_of(depth, many, labels=("a", "b"), texts=("t", "u")):
     return found
 
 
+def some_words(chance, many=6):
+    """A words machine of at most so many states, more or less of whose steps lead on alone."""
+    many = chance.randint(1, many)
+    onward = chance.random()
+    steps = []
+    for state in range(many):
+        letters = sorted(chance.sample(range(5), chance.choice((0, 1, 1, 2, 2, 3))))
+        steps.append(tuple((letter, chance.randrange(state if chance.random() < onward else 0, many)) for letter in letters))
+    tops = tuple(tuple(sorted(chance.sample(range(4), chance.choice((0, 0, 1, 2))))) for _ in range(many))
+    return many, chance.choice((0, 0, 0, many - 1)), tuple(steps), tops
+
+
 def seeded(number):
     """A source of chance that is the same each time."""
     return random.Random(number)

@@ -36,6 +36,15 @@ class Examples(unittest.TestCase):
     def test_endings(self):
         self.check_section(10, 6)
 
+    def test_keeper(self):
+        self.check_section(11, 7)
+
+    def test_counts(self):
+        self.check_section(12, 4)
+
+    def test_growth(self):
+        self.check_section(13, 6)
+
     def test_readme(self):
         result = doctest.testfile(os.path.join(os.path.dirname(HERE), "README.md"), module_relative=False)
         self.assertEqual(result.failed, 0)

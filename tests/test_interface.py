@@ -37,6 +37,16 @@ INTERFACE = {
                "after_all": "machine stack signs", "stack_of": "machine prefix", "answer_by": "machine stack ending"},
     "likeness": {"pair_lots": "machine one other", "alike": "machine one other", "parting": "machine one other",
                  "parting_holds": "machine one other value"},
+    "leaststacks": {"least": "machine stack", "kind": "machine prefix", "least_stacks": "machine depth *most"},
+    "counts": {"stack_machine": "machine *most", "counts_to": "machine depth *most", "count": "machine depth *most",
+               "count_matrix": "machine *most"},
+    "growth": {"check_words_machine": "value", "counted": "words depth", "most_kinds": "words depth",
+               "bits_at": "words depth", "useful": "words", "loops": "words", "growth": "words", "bits": "words",
+               "rests": "words", "at_rest": "words modulo rest", "grows": "words", "grows_holds": "words value",
+               "ranks": "words", "ranks_hold": "words value"},
+}
+CLASSES = {
+    "keeper": {"Keeper": {"__init__": "machine", "depth": "", "read": "sign", "read_all": "signs", "word": "", "twin": ""}},
 }
 ERRORS = ("OpenError BadOctets BadForm BadSign BadStream BadQuestion BadMachine BadText Refused TooGreat Broken NoFact "
           "NoState NoLabel").split()
@@ -52,6 +62,9 @@ GIVEN = {"sign": SIGNS[0], "signs": SIGNS, "octets": (0, 1, 1, 2), "at": 1, "pre
          "ending": (("close",),), "one": (0, 0), "most": 100}
 VALUES = {"words": "a", "forms": SIGNS[1], "streams": SIGNS, "documents": DOCUMENT, "facts": QUESTION, "paths": PATH,
           "machines": MACHINE, "stacks": (0, 1), "likeness": (("close",),)}
+WORDS = (2, 0, (((0, 0), (1, 1)), ((0, 1),)), ((0,), (0, 1)))
+GIVEN.update(words=WORDS, modulo=3, rest=1)
+VALUES["growth"] = WORDS
 OTHER = {"likeness": (0, 1)}
 TEXT_OF = {"documents": '"x"<a></a>', "paths": "/a[/b]"}
 
@@ -69,7 +82,7 @@ def arguments_for(module, name):
     """By name the arguments of an ordinary call."""
     if name == "kind_of":
         return {"names": GIVEN["names"], "value": "c"}
-    names = [word for word in INTERFACE[module][name].split() if not word.startswith("*")]
+    names = [word.lstrip("*") for word in INTERFACE[module][name].split() if "=" not in word]
     given = dict(GIVEN, value=VALUES.get(module), text=TEXT_OF.get(module), other=OTHER.get(module, MACHINE))
     return {word: given[word] for word in names}
 
@@ -84,6 +97,13 @@ class Interface(Case):
         for module, name, function in self.functions():
             self.assertEqual(function.__module__, "stillopen." + module, name)
             self.assertEqual(told_of(function), INTERFACE[module][name], name)
+        for module, listed in CLASSES.items():
+            for name, methods in listed.items():
+                one = getattr(importlib.import_module("stillopen." + module), name)
+                self.assertEqual(one.__module__, "stillopen." + module)
+                for method, told in methods.items():
+                    self.assertIn(method, vars(one))
+                    self.assertEqual(told_of(vars(one)[method]), ("self " + told).strip(), method)
         for name in ERRORS:
             self.assertEqual(getattr(errors, name).__module__, "stillopen.errors")
 
@@ -94,7 +114,9 @@ class Interface(Case):
             self.assertTuples(told)
             lists = {word: as_lists(value) for word, value in given.items()}
             kept = copy.deepcopy(lists)
-            for again in (function(*given.values()), function(**lists), function(*lists.values())):
+            only_named = {"most": given.pop("most")} if "most" in given else {}
+            places = [lists[word] for word in given]
+            for again in (function(*given.values(), **only_named), function(**lists), function(*places, **only_named)):
                 self.assertEqual(again, told, name)
                 self.assertIs(type(again), type(told))
                 self.assertTuples(again)

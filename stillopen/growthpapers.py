@@ -1,7 +1,7 @@
 """Papers that tell how fast the kinds of a words machine grow at least."""
 
 from stillopen.growthranks import all_ranks, has_two_steps
-from stillopen.wordgraph import loop_numbers, next_states, shortest_way
+from stillopen.wordgraph import lot_numbers, next_states, shortest_way
 from stillopen.words import is_number, is_row_of, is_sequence
 
 
@@ -83,7 +83,7 @@ def is_row_paper(words, value):
     """Whether any value is a paper of loops, one behind another."""
     if not is_row_of(value, 3) or value[0] != "row" or not is_sequence(value[1]):
         return False
-    numbers = loop_numbers(next_states(words), [True] * words[0])
+    numbers = lot_numbers(next_states(words), [True] * words[0])
     state = words[1]
     ahead = None
     for pair in value[1]:
@@ -92,7 +92,7 @@ def is_row_paper(words, value):
         state = _led_by(words, state, pair[0])
         if state is None or _led_by(words, state, pair[1]) != state or len(pair[1]) == 0:
             return False
-        # The one ahead leads here: if this one led back to it, or to one further ahead, both would be of one loop.
+        # The one ahead leads here: if this one led back to it, or to one further ahead, both would be of one lot.
         if numbers[state] == ahead:
             return False
         ahead = numbers[state]

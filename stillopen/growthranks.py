@@ -1,12 +1,12 @@
 """Ranks of the states of a words machine: how many loops stand at most on a way from each."""
 
-from stillopen.wordgraph import are_useful, is_loop, loop_numbers, lots_of, next_states
+from stillopen.wordgraph import are_useful, is_loop, lot_numbers, lots_of, next_states
 from stillopen.words import is_number, is_row_of
 
 
 def has_two_steps(words):
     """Some (state, letter, letter) of two steps of a useful state to its own loop; None if there is none."""
-    numbers = loop_numbers(next_states(words), are_useful(words))
+    numbers = lot_numbers(next_states(words), are_useful(words))
     for state, row in enumerate(words[2]):
         letters = [letter for letter, behind in row if numbers[state] is not None and numbers[behind] == numbers[state]]
         if len(letters) > 1:

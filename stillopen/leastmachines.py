@@ -52,14 +52,18 @@ def _doings(maps, lots):
     return [tuple([lots[state] for state in row]) for row in maps]
 
 
-def _lot_steps(starts, texts, children, lots, child_lots):
-    """The steps of rows whose states are lots; children are told by their lots, too."""
+def _first_states(lots):
+    """By lot the first state of it."""
     first = {}
     for state, lot in enumerate(lots):
         first.setdefault(lot, state)
-    first_child = {}
-    for state, lot in enumerate(child_lots):
-        first_child.setdefault(lot, state)
+    return first
+
+
+def _lot_steps(starts, texts, children, lots, child_lots):
+    """The steps of rows whose states are lots; children are told by their lots, too."""
+    first = _first_states(lots)
+    first_child = _first_states(child_lots)
     return (
         [lots[state] for state in starts],
         lambda lot: [lots[row[first[lot]]] for row in texts],

@@ -87,13 +87,12 @@ def is_loop(nexts, lot):
     return len(lot) > 1 or lot[0] in nexts[lot[0]]
 
 
-def loop_numbers(nexts, kept):
-    """By state the number of its loop, None in no loop; states of one loop have one number."""
+def lot_numbers(nexts, kept):
+    """By state the number of its lot, None of those that are not kept; states of one lot have one number."""
     told = [None] * len(nexts)
     for number, lot in enumerate(lots_of(nexts, kept)):
-        if is_loop(nexts, lot):
-            for state in lot:
-                told[state] = number
+        for state in lot:
+            told[state] = number
     return told
 
 

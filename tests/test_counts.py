@@ -22,6 +22,10 @@ HARD = (
      (3, (2, 2, 2), ((2, 2, 2),), ((1, 1, 1), (0, 1, 2), (0, 0, 0)))),
 )
 
+# One lot of these has no tops, and none behind any one step: only two steps lead on from it to some.
+FAR = ((), ("t",), (2, 1, ((0, 1), (1, 1)), ((1, 1), (0, 0), (0, 0)), ((True, True), (False, True))),
+       (3, (0,), ((2, 2, 2), (0, 1, 1)), ((1, 1, 1), (2, 2, 1), (0, 0, 0))))
+
 
 def some_machines(many, seed, inner=3, top=3):
     chance = seeded(seed)
@@ -112,11 +116,11 @@ class Counts(Case):
             self.assertEqual(counts_to(machine, 3, most=2000), wanted)
 
     def test_words_are_the_least_stacks(self):
-        for machine in some_machines(120, 151):
+        for machine in [FAR] + list(some_machines(120, 151)):
             words = stack_machine(machine, most=2000)
             self.assertEqual(stack_machine(as_lists(machine), most=2000), words)
             self.assertTold(machine, words)
-            for depth, told in enumerate(words_to(words, 3)):
+            for depth, told in enumerate(words_to(words, 7 if machine == FAR else 3)):
                 self.assertEqual(told, least_stacks(machine, depth, most=2000))
 
     def test_counts(self):

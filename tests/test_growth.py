@@ -26,6 +26,8 @@ NO_WORDS = (
     (1, 0, ((),), ((2000,),)), (1, 0, ((),), ((-1,),)), (1, 0, ((),), ((True,),)), (1, 0, ((),), ((1, 1),)),
     (1, 0, ((),), ((1, 0),)), (2001, 0, ((),) * 2001, ((),) * 2001), ("1", 0, ((),), ((),)), (1, None, ((),), ((),)),
     (1, 0, ((3,),), ((),)), (1, 0, (((None, 0),),), ((),)), (-1, 0, (), ()), (10 ** 30, 0, (), ()),
+    (2, 0, ((), ((0, 2),)), ((), ())), (2, 0, (((1, 0), (0, 0)), ()), ((), ())), (2, 0, ((), ()), ((), (1, 0))),
+    (2, 0, ((), ()), ((2000,), (1,))), (2, 2, ((), ()), ((), ())), (2, 0, ((), ((0, 0), (0, 1))), ((), ())),
 )
 OF_WORDS = {
     "counted": lambda words: counted(words, None), "most_kinds": lambda words: most_kinds(words, None),
@@ -410,6 +412,32 @@ class Papers(Case):
                 at_start = told[words[1]]
                 power = at_start[0] - 1 if at_start is not None else 0
                 self.assertEqual(max(power, 0), rate[1] if rate[0] == "power" else 0)
+
+    def test_other_ranks(self):
+        # 0 leads by 5 to itself, by 1 to 1; 2 is not useful.
+        words = (3, 0, (((1, 1), (4, 2), (5, 0)), (), ((0, 2),)), ((), (0,), ()))
+        for value in (
+            ((1, 0, 5), (0, 0, None), None), ((3, 9, 5), (2, 7, 0), None), [[1, 0, 5], [0, 0, None], None],
+            ((1, 0, 5), (0, 0, None), (0, 0, 0)),
+        ):
+            self.assertIs(ranks_hold(words, value), True, value)
+        for value in (
+            ((0, 0, 5), (0, 0, None), None), ((1, 0, 5), None, None), ((1, 0, 1), (0, 0, None), None),
+            ((1, 0, 5), (1, 0, None), None), ((1, 0, 5), (1, 0, 3), None), ((1, 1, None), (0, 0, None), None),
+            ((1, 0, 5), (0, 0, 0), None), ((1, 0, 5), (2, 0, None), None), ((1, 0, 5), (0, 0, None)), ((1, 0), (0, 0, None), None),
+            ((1, 0, 5), (0, 0, None), 0), ((True, 0, 5), (0, 0, None), None), ((1, 0, 5), (0, -1, None), None),
+            ((1, 0, 5), (0, 0, None), (1, 0, 4, 4)), ((1, 0, 5), (0, 0, "0"), None), ((1, 0, 5), (0, 0, None), (2, 0, None)),
+        ):
+            self.assertIs(ranks_hold(words, value), False, value)
+        step = (2, 0, (((5, 1),), ((3, 1),)), ((), (0,)))
+        self.assertIs(ranks_hold(step, ((1, 1, None), (1, 0, 3))), True)
+        self.assertIs(ranks_hold(step, ((1, 0, 5), (1, 0, 3))), True)
+        self.assertIs(ranks_hold(step, ((1, 0, 3), (1, 0, 3))), False)
+        self.assertIs(ranks_hold(step, ((1, 0, None), (1, 0, 3))), False)
+        way = (2, 0, (((5, 1),), ()), ((), (0,)))
+        self.assertIs(ranks_hold(way, ((1, 0, 5), (1, 0, 3))), True)
+        self.assertIs(ranks_hold(way, ((1, 0, 5), (1, 0, None))), False)
+        self.assertIs(ranks_hold(way, ((1, 1, None), (1, 0, None))), True)
 
     def test_bent_ranks(self):
         chance = seeded(171)

@@ -129,7 +129,7 @@ class LeastStacks(Case):
         turns = tuple(tuple((child + state) % 4 for state in range(4)) for child in range(4))
         machine = ("a", "b", "c"), (), (6, 0, (six,), rows, answers), (4, same, (same,), turns)
         self.assertLess(len(self.assertWithin(5, least_stacks, machine, 4, most=2000)), 1537)
-        self.assertEqual(len(least_stacks(machine, 0, most=1)), 6)
+        self.assertEqual(least_stacks(machine, 0, most=1), tuple((state,) for state in six))
         self.assertEqual(len(self.assertWithin(5, least, great_machine(4), (3,) * 9)), 9)
 
 

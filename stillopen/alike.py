@@ -13,7 +13,7 @@ def _documents(machine):
     return {states[0]: told for states, told in led.items()}
 
 
-def _least_where(machine, is_wanted):
+def least_where(machine, is_wanted):
     """Some document of fewest signs whose answer is wanted, None if there is none."""
     for state, (_, document) in _documents(machine).items():
         if is_wanted(machine[2][4][state]):
@@ -33,7 +33,7 @@ def least_with(machine, place, word):
         raise Refused(place)
     if not isinstance(word, bool):
         raise Refused(word)
-    return _least_where(checked, lambda words: words[place] == word)
+    return least_where(checked, lambda words: words[place] == word)
 
 
 def _pair_of(machine, other):
@@ -49,7 +49,7 @@ def _pair_of(machine, other):
 def least_apart(machine, other):
     """Some document of fewest signs to which two machines answer unlike, None if they answer alike."""
     both, many = _pair_of(machine, other)
-    return _least_where(both, lambda words: words[:many] != words[many:])
+    return least_where(both, lambda words: words[:many] != words[many:])
 
 
 def are_alike(machine, other):
@@ -60,7 +60,7 @@ def are_alike(machine, other):
 def least_beyond(machine, other):
     """Some document of fewest signs to which the one says True where the other one says False, None if none is."""
     both, many = _pair_of(machine, other)
-    return _least_where(both, lambda words: any([words[place] and not words[many + place] for place in range(many)]))
+    return least_where(both, lambda words: any([words[place] and not words[many + place] for place in range(many)]))
 
 
 def parts(machine, other, document):

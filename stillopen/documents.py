@@ -170,12 +170,12 @@ def _read_sign(text, at, labels):
     return _read_opening(text, at + 1)
 
 
-def _read_markup(text):
-    """(signs, the place behind them, the labels of the levels left open)."""
+def markup_behind(text, outer):
+    """(signs, the place behind them, the labels of the levels left open), levels of these labels being open ahead."""
     if not isinstance(text, str):
         raise BadText(-1)
     signs = []
-    labels = []
+    labels = list(outer)
     at = 0
     while at < len(text):
         sign, behind = _read_sign(text, at, labels)
@@ -192,13 +192,13 @@ def _read_markup(text):
 
 def read_markup(text):
     """(the signs whose markup is whole from the beginning on, the place behind them)."""
-    signs, behind, _ = _read_markup(text)
+    signs, behind, _ = markup_behind(text, ())
     return signs, behind
 
 
 def from_text(text):
     """The document of its markup; BadText for any value that is none."""
-    signs, behind, labels = _read_markup(text)
+    signs, behind, labels = markup_behind(text, ())
     if behind < len(text) or len(labels) > 0:
         raise BadText(len(text))
     return _nodes_of(signs)

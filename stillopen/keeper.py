@@ -36,6 +36,10 @@ class Keeper:
         self.stack = stack
         return stack
 
+    def go_to(self, stack):
+        """Has read what leads to a stack of states that are come to."""
+        self.stack = least_beside(self.beside, stack)
+
     def _behind(self, stack, sign):
         """The least stack behind a least stack and a sign; nothing is read."""
         told = check_sign(sign)

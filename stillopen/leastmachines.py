@@ -1,13 +1,7 @@
 """Least machines: of all that answer alike the one of fewest names and states, numbered as they are come to."""
 
 from stillopen.machines import check_machine, trimmed
-from stillopen.reach import machine_from, put_new, top_states
-
-
-def _numbered(things):
-    """By place a number, the same one for equal things, in the order in which they first stand there."""
-    numbers = {}
-    return [numbers.setdefault(thing, len(numbers)) for thing in things]
+from stillopen.reach import machine_from, numbered, put_new, top_states
 
 
 def _around_inner(machine, inner_lots, top_lots, state):
@@ -30,14 +24,14 @@ def _lots_of_states(machine):
     """(by inner state, by top state the number of its lot): states of one lot are not parted; all are come to."""
     _, _, tops, inners = machine
     inner_lots = [0] * inners[0]
-    top_lots = _numbered(tops[4])
+    top_lots = numbered(tops[4])
     many = 0
     while many < max(inner_lots) + max(top_lots) + 2:
         many = max(inner_lots) + max(top_lots) + 2
         inner_sights = [_around_inner(machine, inner_lots, top_lots, state) for state in range(inners[0])]
         top_sights = [_around_top(machine, top_lots, state) for state in range(tops[0])]
-        inner_lots = _numbered(inner_sights)
-        top_lots = _numbered(top_sights)
+        inner_lots = numbered(inner_sights)
+        top_lots = numbered(top_sights)
     return inner_lots, top_lots
 
 

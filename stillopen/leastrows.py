@@ -3,7 +3,7 @@
 from heapq import heappop, heappush
 
 from stillopen.documents import signs_of
-from stillopen.machines import other_label, other_text
+from stillopen.machines import label_beside, text_beside
 
 
 def _put_better(news, best, offers, queue):
@@ -43,14 +43,14 @@ def _with_node(element, node):
 
 def _text_words(machine):
     """By kind of text such a text."""
-    return machine[1] + (other_text(machine),)
+    return machine[1] + (text_beside(machine[1]),)
 
 
 def least_elements(machine):
     """By inner state that rows come to the least (how many signs, some element whose row ends in it)."""
     _, starts, texts, children = machine[3]
     words = _text_words(machine)
-    names = machine[0] + (other_label(machine),)
+    names = machine[0] + (label_beside(machine[0]),)
 
     def going_on(state, done):
         """The offers of elements that have one node more, this element or another one standing in the other."""

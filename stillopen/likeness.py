@@ -1,11 +1,11 @@
 """Stacks that are alike, and endings that part those that are not."""
 
 from stillopen.errors import Refused
-from stillopen.leastrows import least_led, sign_steps
 from stillopen.machines import check_machine
 from stillopen.pairlots import PairLots
 from stillopen.stacks import answer_by, stack_in
 from stillopen.streams import is_ending
+from stillopen.ways import Ways
 
 
 def _checked(machine, one, other):
@@ -43,29 +43,11 @@ def alike(machine, one, other):
     return all([answers[state] == answers[state_too] for state, state_too in _lots(checked, stack, stack_too)[-1]])
 
 
-def _led_to_top(machine, one, other):
-    """By pair of top states the least (how many signs, some beginning of an ending) that leads both there."""
-    _, _, tops, inners = machine
-    inner_steps = sign_steps(machine, inners[2], inners[3])
-    top_steps = sign_steps(machine, tops[2], tops[3])
-    levels = list(zip(one, other))
-    offers = [(0, levels[-1], ())]
-    for level in reversed(range(len(levels) - 1)):
-        children = inners[3] if level > 0 else tops[3]
-        state, state_too = levels[level]
-        led = least_led(offers, inner_steps)
-        offers = []
-        for (child, child_too), (cost, signs) in led.items():
-            pair = (children[child][state], children[child_too][state_too])
-            offers.append((cost + 1, pair, signs + (("close",),)))
-    return least_led(offers, top_steps)
-
-
 def parting(machine, one, other):
     """Some ending of fewest signs that parts two stacks of one depth, None if they are alike."""
     checked, stack, stack_too = _checked(machine, one, other)
     answers = checked[2][4]
-    for (state, state_too), (_, signs) in _led_to_top(checked, stack, stack_too).items():
+    for (state, state_too), (_, signs) in Ways(checked).by_level([stack, stack_too])[-1].items():
         if answers[state] != answers[state_too]:
             return signs
     return None

@@ -51,19 +51,27 @@ def answer(machine, document):
     return tops[4][states[0]]
 
 
-def other_label(machine):
-    """The least label of one letter that a machine does not name."""
-    labels = check_machine(machine)[0]
+def label_beside(labels):
+    """The least label of one letter that is not among labels."""
     return [letter for letter in LETTERS if letter not in labels][0]
 
 
-def other_text(machine):
-    """The shortest text of letters a that a machine does not name."""
-    texts = check_machine(machine)[1]
+def text_beside(texts):
+    """The shortest text of letters a that is not among texts."""
     text = ""
     while text in texts:
         text += "a"
     return text
+
+
+def other_label(machine):
+    """The least label of one letter that a machine does not name."""
+    return label_beside(check_machine(machine)[0])
+
+
+def other_text(machine):
+    """The shortest text of letters a that a machine does not name."""
+    return text_beside(check_machine(machine)[1])
 
 
 def _lacks(names, wanted):
@@ -71,7 +79,7 @@ def _lacks(names, wanted):
     return any([name not in names for name in wanted])
 
 
-def _new_kinds(names, wider):
+def new_kinds(names, wider):
     """By kind of wider names the kind of these names, that of all others last."""
     return [kind_of(names, name) for name in wider] + [len(names)]
 
@@ -83,8 +91,8 @@ def widened(machine, labels, texts):
         raise Refused(labels)
     if not are_texts(texts) or _lacks(texts, old_texts):
         raise Refused(texts)
-    starts = tuple([inners[1][kind] for kind in _new_kinds(old_labels, labels)])
-    kinds = _new_kinds(old_texts, texts)
+    starts = tuple([inners[1][kind] for kind in new_kinds(old_labels, labels)])
+    kinds = new_kinds(old_texts, texts)
     inner_texts = tuple([inners[2][kind] for kind in kinds])
     top_texts = tuple([tops[2][kind] for kind in kinds])
     inner = (inners[0], starts, inner_texts, inners[3])
@@ -135,13 +143,13 @@ def _part_steps(starts, texts, children):
     )
 
 
-def _inner_steps(machine):
+def inner_steps_of(machine):
     """The steps of a machine's inner rows."""
     _, starts, texts, children = machine[3]
     return _part_steps(starts, texts, children)
 
 
-def _top_steps(machine):
+def top_steps_of(machine):
     """The steps of a machine's top rows."""
     _, start, texts, children, _ = machine[2]
     return _part_steps((start,), texts, children)
@@ -149,8 +157,8 @@ def _top_steps(machine):
 
 def come_to(machine):
     """(the inner states, the top states) that rows come to, of a machine that was checked."""
-    inner = inner_states(_inner_steps(machine), STATES_MOST)
-    return inner, top_states(_top_steps(machine), inner, STATES_MOST)
+    inner = inner_states(inner_steps_of(machine), STATES_MOST)
+    return inner, top_states(top_steps_of(machine), inner, STATES_MOST)
 
 
 def trimmed(machine):
@@ -158,10 +166,10 @@ def trimmed(machine):
     checked = check_machine(machine)
     inner, top = come_to(checked)
     answers = [checked[2][4][state] for state in top]
-    return machine_from(checked[:2], (_inner_steps(checked), inner), (_top_steps(checked), top), answers)
+    return machine_from(checked[:2], (inner_steps_of(checked), inner), (top_steps_of(checked), top), answers)
 
 
-def _paired(one, other):
+def paired(one, other):
     """The steps of pairs of states, by the steps of either."""
     starts, text_steps, child_step = one
     starts_too, text_steps_too, child_step_too = other
@@ -172,27 +180,29 @@ def _paired(one, other):
     )
 
 
-def _all_names(names, more):
-    """The ascending names that are among one of both."""
-    return tuple(sorted(set(names + more)))
+def all_names(one, other):
+    """(the ascending labels, the ascending texts) that one or the other names; Refused if these are too many."""
+    labels = tuple(sorted(set(one[0] + other[0])))
+    if not are_labels(labels):
+        raise Refused(labels)
+    texts = tuple(sorted(set(one[1] + other[1])))
+    if not are_texts(texts):
+        raise Refused(texts)
+    return labels, texts
 
 
 def side_by_side(machine, other):
     """A machine that answers with the words of the one, then with those of the other one."""
     one = check_machine(machine)
     two = check_machine(other)
-    names = (_all_names(one[0], two[0]), _all_names(one[1], two[1]))
-    if not are_labels(names[0]):
-        raise Refused(names[0])
-    if not are_texts(names[1]):
-        raise Refused(names[1])
+    names = all_names(one, two)
     one = widened(one, names[0], names[1])
     two = widened(two, names[0], names[1])
-    inner_steps = _paired(_inner_steps(one), _inner_steps(two))
+    inner_steps = paired(inner_steps_of(one), inner_steps_of(two))
     inner = inner_states(inner_steps, STATES_MOST)
     if len(inner) > STATES_MOST:
         raise BadMachine(3)
-    top_steps = _paired(_top_steps(one), _top_steps(two))
+    top_steps = paired(top_steps_of(one), top_steps_of(two))
     top = top_states(top_steps, inner, STATES_MOST)
     answers = [one[2][4][pair[0]] + two[2][4][pair[1]] for pair in top]
     if len(top) > STATES_MOST or len(answers[0]) > WORDS_MOST:

@@ -1,34 +1,21 @@
 """Lots of pairs of states in which the rows of two stacks can stand behind like endings, level by level."""
 
-from stillopen.machines import come_to
+from stillopen.rowmaps import RowMaps, spread
 
 
 def _spread(pairs, maps):
     """Ascending all pairs to which maps, one behind another, lead these pairs."""
-    todo = list(pairs)
-    found = {}
-    while todo:
-        pair = todo.pop()
-        if pair not in found:
-            found[pair] = True
-            todo.extend([(row[pair[0]], row[pair[1]]) for row in maps])
-    return tuple(sorted(found))
+    return tuple(sorted(spread(pairs, lambda pair: [(row[pair[0]], row[pair[1]]) for row in maps])))
 
 
-class PairLots:
+class PairLots(RowMaps):
     """The lots of a machine that was checked, inner ones by numbers; what was told once is kept.
 
     A lot is an ascending tuple of pairs. None is what is within the innermost level: nothing.
     """
 
     def __init__(self, machine):
-        inner, top = come_to(machine)
-        _, _, tops, inners = machine
-        self.machine = machine
-        self.inner_states = tuple(sorted(inner))
-        self.top_states = tuple(sorted(top))
-        self.inner_maps = inners[2] + tuple([inners[3][child] for child in inner])
-        self.top_maps = tops[2] + tuple([tops[3][child] for child in inner])
+        RowMaps.__init__(self, machine)
         self.pairs = []
         self.numbers = {}
         self.led = {}

@@ -3,17 +3,23 @@
 
 def facts_for(expression):
     """The facts of a question, the last of which is so of a row just if the expression is."""
+    facts, asked = facts_for_all([expression])
+    return facts[:asked[0] + 1]
+
+
+def facts_for_all(expressions):
+    """(the facts of a question, by expression the number of that which is so of a row just if the expression is)."""
     facts = {}
-    bases = _bases(expression)
-    base = bases[0] if len(bases) > 0 else ("label", "a")
-    last = _fact_of(expression, facts, base)
-    return tuple(list(facts)[:last + 1])
+    found = [base for expression in expressions for base in bases(expression)]
+    base = found[0] if len(found) > 0 else ("label", "a")
+    asked = [_fact_of(expression, facts, base) for expression in expressions]
+    return tuple(list(facts)), tuple(asked)
 
 
-def _bases(expression):
+def bases(expression):
     """The facts of labels and texts that an expression asks for."""
     if expression[0] != "path":
-        return [base for part in expression[1:] for base in _bases(part)]
+        return [base for part in expression[1:] for base in bases(part)]
     found = []
     for step in expression[1]:
         if len(step) == 3:
@@ -29,7 +35,7 @@ def _bases_of_test(test):
     """The facts of labels and texts that a test asks for."""
     label, filters = test
     found = [] if label is None else [("label", label)]
-    return found + [base for part in filters for base in _bases(part)]
+    return found + [base for part in filters for base in bases(part)]
 
 
 def _put(facts, fact):

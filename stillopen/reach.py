@@ -14,6 +14,12 @@ def put_new(news, states, numbers):
             states.append(state)
 
 
+def numbered(things):
+    """By place a number, the same one for equal things, in the order in which they first stand there."""
+    numbers = {}
+    return [numbers.setdefault(thing, len(numbers)) for thing in things]
+
+
 def _all_states(steps, most, behind_elements):
     """The states that rows come to; if these are more than most, more than most of them.
 

@@ -4,7 +4,8 @@ import random
 import time
 import unittest
 
-from stillopen.errors import BadMachine, BadSign, NoFact, OpenError
+from stillopen.errors import BadMachine, BadSign, NoFact, OpenError, TooGreat
+from stillopen.picture import machine_for
 
 
 def nested(value, deep):
@@ -242,6 +243,7 @@ NO_MACHINES = ((-1, None), (-1, HAS[:3]), (0, (("A",),) + HAS[1:]), (1, HAS[:1] 
                (3, HAS[:3] + ((),)), (2, HAS[:2] + ((),) + HAS[3:]), (3, HAS[:2] + ((), ())))
 
 
+QUESTION = (("label", "a"), ("text", "x", 1), ("and", 0, 1), ("inside", 2))
 ALL_DOCUMENTS = {}
 
 
@@ -290,6 +292,129 @@ def some_words(chance, many=6):
         steps.append(tuple((letter, chance.randrange(state if chance.random() < onward else 0, many)) for letter in letters))
     tops = tuple(tuple(sorted(chance.sample(range(4), chance.choice((0, 0, 1, 2))))) for _ in range(many))
     return many, chance.choice((0, 0, 0, many - 1)), tuple(steps), tops
+
+
+def some_reader(chance, labels=("a",), texts=("t",), many=3, words=1):
+    """A reader with these names, of so many states."""
+
+    def maps(length):
+        return tuple(tuple(chance.randrange(many) for _ in range(many)) for _ in range(length))
+
+    answers = tuple(tuple(chance.random() < 0.5 for _ in range(words)) for _ in range(many))
+    return (labels, texts, many, chance.randrange(many), maps(len(labels) + 1), maps(len(texts) + 1), maps(1)[0], answers)
+
+
+def some_ladder(chance, labels=("a",), texts=("t",), manys=(2, 3), words=1):
+    """A ladder with these names, of so many states by level."""
+
+    def maps(length, many, into):
+        return tuple(tuple(chance.randrange(into) for _ in range(many)) for _ in range(length))
+
+    levels = []
+    for at, many in enumerate(manys):
+        opens = maps(len(labels) + 1, many, manys[at + 1]) if at + 1 < len(manys) else ()
+        close = maps(1, many, manys[at - 1])[0] if at > 0 else ()
+        levels.append((many, maps(len(texts) + 1, many, many), opens, close))
+    answers = tuple(tuple(chance.random() < 0.5 for _ in range(words)) for _ in range(manys[0]))
+    return labels, texts, chance.randrange(manys[0]), tuple(levels), answers
+
+
+def ordered_machine(chance, labels=("a",), texts=("t",), inner=3, top=3, words=1):
+    """A machine with these names, most maps of which change little: so its stacks keep more than those of some_machine."""
+
+    def rows(length, many):
+        stays = [chance.random() < 0.3 for _ in range(many)]
+
+        def row():
+            sort = chance.random()
+            if sort < 0.4:
+                return tuple(range(many))
+            if sort < 0.7:
+                return tuple(max(state, chance.randrange(many)) for state in range(many))
+            return tuple(state if stays[state] else chance.randrange(many) for state in range(many))
+
+        return tuple(row() for _ in range(length))
+
+    answers = tuple(tuple(chance.random() < 0.5 for _ in range(words)) for _ in range(top))
+    starts = tuple(chance.randrange(inner) for _ in range(len(labels) + 1))
+    top_rows, inner_rows = rows(len(texts) + 1 + inner, top), rows(len(texts) + 1 + inner, inner)
+    many = len(texts) + 1
+    tops = (top, chance.randrange(top), top_rows[:many], top_rows[many:], answers)
+    return labels, texts, tops, (inner, starts, inner_rows[:many], inner_rows[many:])
+
+
+def any_machines(many, seed, inner=3, top=3, words=2):
+    """Machines of all sorts, of no more states and words than these."""
+    chance = seeded(seed)
+    for _ in range(many):
+        make = chance.choice((some_machine, ordered_machine, ordered_machine))
+        yield make(chance, chance.choice(((), ("a",))), chance.choice(((), ("t",))), chance.randint(1, inner),
+                   chance.randint(1, top), chance.randint(1, words))
+
+
+def any_stack(chance, machine, deep):
+    """Any stack, whether a prefix leads to it or not."""
+    return (chance.randrange(machine[2][0]),) + tuple(chance.randrange(machine[3][0]) for _ in range(deep))
+
+
+def step_plainly(machine, stack, sign):
+    """The stack behind a sign, told straight from [30]."""
+    labels, texts, tops, inners = machine
+
+    def kind(names, value):
+        return names.index(value) if value in names else len(names)
+
+    if sign[0] == "open":
+        return stack + (inners[1][kind(labels, sign[1])],)
+    if sign[0] == "text":
+        return stack[:-1] + ((tops if len(stack) == 1 else inners)[2][kind(texts, sign[1])][stack[-1]],)
+    return stack[:-2] + ((tops if len(stack) == 2 else inners)[3][stack[-1]][stack[-2]],)
+
+
+def signs_for(machine, closing=True):
+    """One sign for each of those that a machine tells apart."""
+    opens = [("open", label) for label in machine[0] + ("zz",)]
+    texts = [("text", text) for text in machine[1] + ("zz",)]
+    return opens + texts + ([("close",)] if closing else [])
+
+
+def endings_plainly(machine, stack, extra):
+    """By answer how many signs the shortest ending has that gives it, told by going through stacks one by one.
+
+    No stack is looked at that has more than so many levels besides those of the first one.
+    """
+    signs = signs_for(machine)
+    told, row, seen, many = {}, [stack], {stack}, 0
+    while row:
+        news = []
+        for one in row:
+            if len(one) == 1:
+                told.setdefault(machine[2][4][one[0]], many)
+            for sign in signs:
+                if sign[0] == "close" and len(one) == 1 or sign[0] == "open" and len(one) == len(stack) + extra:
+                    continue
+                behind = step_plainly(machine, one, sign)
+                if behind not in seen:
+                    seen.add(behind)
+                    news.append(behind)
+        row, many = news, many + 1
+    return told
+
+
+def some_questions(many, seed, inner=6, top=12):
+    """Questions, what is asked, and their machines, which have no more states than these."""
+    chance = seeded(seed)
+    found = 0
+    while found < many:
+        question = some_question(chance, chance.randint(2, 8), ("a", "b"), ("t",))
+        asked = tuple(chance.randrange(len(question)) for _ in range(chance.choice((1, 1, 2, 3))))
+        try:
+            machine = machine_for(question, asked)
+        except TooGreat:
+            continue
+        if machine[3][0] <= inner and machine[2][0] <= top and (machine[2][0] > 1 or chance.random() < 0.05):
+            found += 1
+            yield question, asked, machine
 
 
 def seeded(number):

@@ -45,6 +45,33 @@ class Examples(unittest.TestCase):
     def test_growth(self):
         self.check_section(13, 6)
 
+    def test_readers_and_ladders(self):
+        self.check_section(14, 10)
+
+    def test_sure(self):
+        self.check_section(15, 6)
+
+    def test_pieces(self):
+        self.check_section(16, 6)
+
+    def test_skipped(self):
+        self.check_section(17, 7)
+
+    def test_reasons(self):
+        self.check_section(18, 5)
+
+    def test_several(self):
+        self.check_section(19, 10)
+
+    def test_the_whole(self):
+        self.check_section(20, 10)
+
+    def test_desk(self):
+        self.check_section(21, 5)
+
+    def test_overview(self):
+        self.check_section(1, 2)
+
     def test_readme(self):
         result = doctest.testfile(os.path.join(os.path.dirname(HERE), "README.md"), module_relative=False)
         self.assertEqual(result.failed, 0)

@@ -44,9 +44,33 @@ INTERFACE = {
                "bits_at": "words depth", "useful": "words", "loops": "words", "growth": "words", "bits": "words",
                "rests": "words", "at_rest": "words modulo rest", "grows": "words", "grows_holds": "words value",
                "ranks": "words", "ranks_hold": "words value"},
+    "readers": {"check_reader": "value", "reader_word": "reader stream", "machine_of": "reader",
+                "reader_apart": "machine reader", "is_right": "machine reader",
+                "reader_kinds": "machine reader depth *most"},
+    "ladders": {"check_ladder": "value", "ladder_word": "ladder stream", "ladder_apart": "machine ladder",
+                "ladder_kinds": "machine ladder *most", "full_depth": "machine", "keeper_ladder": "machine depth *most"},
+    "sure": {"answers_of": "machine stack", "sure": "machine stack", "sure_by": "machine prefix",
+             "earliest": "machine prefix", "sure_table": "machine", "sure_answers": "machine depth",
+             "open_count": "machine depth *most", "shortest_sure": "machine answer"},
+    "pieces": {"no_piece": "machine", "check_piece": "machine value", "sign_piece": "machine sign",
+               "joined": "machine one other", "piece_of": "machine signs", "act": "machine stack piece"},
+    "skipped": {"is_idle": "machine stack level", "idle_level": "machine stack", "is_skipped": "machine stack label",
+                "asked": "machine stack level", "asked_holds": "machine stack level value", "gaps": "machine stream",
+                "bare": "machine stream", "looked_at": "machine stream"},
+    "reasons": {"endings": "machine stack", "ending_to": "machine stack answer", "why": "machine stack",
+                "why_holds": "machine stack value", "turning": "machine prefix"},
+    "several": {"part": "machine place", "without": "machine place", "kinds_by": "machine stack",
+                "counts_by": "machine depth *most", "first_less": "machine *most", "is_needless": "machine place *most",
+                "sure_parts": "machine stack", "earliest_parts": "machine prefix"},
+    "picture": {"machine_for": "question asked", "picture": "machine prefix", "memory": "machine depth *most"},
 }
 CLASSES = {
     "keeper": {"Keeper": {"__init__": "machine", "depth": "", "read": "sign", "read_all": "signs", "word": "", "twin": ""}},
+    "pieces": {"Edited": {"__init__": "machine signs", "many": "", "all_signs": "", "whole": "", "part": "first behind",
+                          "edit": "first behind signs", "answer": ""}},
+    "world": {"World": {"__init__": "question asked", "read": "sign", "read_piece": "signs", "tells": "", "ends": "",
+                        "edit": "first behind signs"}},
+    "desk": {"Desk": {"__init__": "paths", "say": "line"}},
 }
 ERRORS = ("OpenError BadOctets BadForm BadSign BadStream BadQuestion BadMachine BadText Refused TooGreat Broken NoFact "
           "NoState NoLabel").split()
@@ -64,8 +88,16 @@ VALUES = {"words": "a", "forms": SIGNS[1], "streams": SIGNS, "documents": DOCUME
           "machines": MACHINE, "stacks": (0, 1), "likeness": (("close",),)}
 WORDS = (2, 0, (((0, 0), (1, 1)), ((0, 1),)), ((0,), (0, 1)))
 GIVEN.update(words=WORDS, modulo=3, rest=1)
+READER = (("a",), (), 2, 0, ((1, 1), (0, 1)), ((0, 1),), (0, 1), ((False,), (True,)))
+LADDER = (("a",), (), 0, ((1, ((0,),), ((0,), (1,)), ()), (2, ((0, 1),), (), (0, 0))), ((True,),))
+PIECE = ((((0, 1), (0, 1)),), (1,))
+GIVEN.update(reader=READER, ladder=LADDER, piece=PIECE, level=1)
+VALUES.update(readers=READER, ladders=LADDER, pieces=PIECE, skipped=((), SIGNS[::2], ()),
+              reasons=("sure", (True,), (0, 1), ((1,), (1,))))
 VALUES["growth"] = WORDS
-OTHER = {"likeness": (0, 1)}
+OTHER = {"likeness": (0, 1), "pieces": PIECE}
+# What stands under one name in several modules.
+OWN = {"pieces": {"one": PIECE}, "sure": {"answer": (True,)}, "reasons": {"answer": (True,)}}
 TEXT_OF = {"documents": '"x"<a></a>', "paths": "/a[/b]"}
 
 
@@ -84,6 +116,11 @@ def arguments_for(module, name):
         return {"names": GIVEN["names"], "value": "c"}
     names = [word.lstrip("*") for word in INTERFACE[module][name].split() if "=" not in word]
     given = dict(GIVEN, value=VALUES.get(module), text=TEXT_OF.get(module), other=OTHER.get(module, MACHINE))
+    given.update(OWN.get(module, {}))
+    if name == "without":
+        given["machine"] = MACHINE[:2] + (MACHINE[2][:4] + (((False, True), (True, True)),),) + MACHINE[3:]
+    if name == "is_needless":
+        given["machine"] = arguments_for(module, "without")["machine"]
     return {word: given[word] for word in names}
 
 
@@ -121,6 +158,20 @@ class Interface(Case):
                 self.assertIs(type(again), type(told))
                 self.assertTuples(again)
             self.assertEqual(lists, kept, name)
+
+    def test_attributes(self):
+        from stillopen.desk import Desk
+        from stillopen.keeper import Keeper
+        from stillopen.pieces import Edited
+        from stillopen.world import World
+        world = World(QUESTION, (3,))
+        told = ((Keeper(MACHINE), ("machine", "stack")), (Edited(MACHINE, SIGNS), ("made",)), (Desk(["/a"]), ("world",)),
+                (world, ("machine", "signs", "keeper", "first")))
+        for one, names in told:
+            for name in names:
+                self.assertIn(name, vars(one))
+        self.assertIsInstance(world.keeper, Keeper)
+        self.assertIsInstance(Desk(["/a"]).world, World)
 
     def test_equal_calls_do_not_mix_bools_and_numbers(self):
         from stillopen.facts import check_question, meanings

@@ -197,6 +197,17 @@ class Language(unittest.TestCase):
             elif isinstance(part.func, ast.Name) and part.func.id in BUILTINS:
                 self.assertLessEqual({word.arg for word in part.keywords}, {"key", "reverse", "default", "start", "strict"})
 
+    def test_attributes(self):
+        methods = {part.name for _, part in parts(ast.FunctionDef) if part.args.args[:1] and part.args.args[0].arg == "self"}
+        attributes = {part.attr for _, part in parts(ast.Attribute) if isinstance(part.ctx, ast.Store)}
+        self.assertEqual(methods & attributes, set())
+        self.assertEqual(attributes & (METHODS | {"args", "sort", "encode", "decode", "hex", "format"}), set())
+        for one, part in parts(ast.Attribute):
+            if isinstance(part.ctx, ast.Store):
+                self.assertIsInstance(part.value, ast.Name, one.name)
+            elif not isinstance(one.around[part], ast.Call) or one.around[part].func is not part:
+                self.assertIn(part.attr, attributes, one.name)
+
     def test_is(self):
         for one, part in parts(ast.Compare):
             for sign, side in zip(part.ops, part.comparators):

@@ -10,7 +10,7 @@ def facts_for(expression):
 def facts_for_all(expressions):
     """(the facts of a question, by expression the number of that which is so of a row just if the expression is)."""
     facts = {}
-    found = [base for expression in expressions for base in bases(expression)]
+    found = [one for expression in expressions for one in bases(expression)]
     base = found[0] if len(found) > 0 else ("label", "a")
     asked = [_fact_of(expression, facts, base) for expression in expressions]
     return tuple(list(facts)), tuple(asked)

@@ -1,10 +1,10 @@
 """A question's machine, and all that is told at once: of what is behind a prefix, and of what has to be kept."""
 
 from stillopen.compiled import compiled_all
-from stillopen.counts import counts_to, stack_machine
+from stillopen.counts import stack_machine
 from stillopen.ends import Ends
 from stillopen.errors import Refused
-from stillopen.growth import bits, growth
+from stillopen.growth import bits, counted, growth
 from stillopen.leastmachines import least_machine
 from stillopen.leaststacks import kind
 from stillopen.machines import check_machine
@@ -45,7 +45,6 @@ def memory(machine, depth, *, most):
     checked = check_machine(machine)
     if not is_number(depth):
         raise Refused(depth)
-    kinds = counts_to(checked, depth, most=most)
     words = stack_machine(checked, most=most)
     sures = tuple([len(sure_answers(checked, level)) for level in range(depth + 1)])
-    return kinds, sures, growth(words), bits(words)
+    return counted(words, depth), sures, growth(words), bits(words)

@@ -7,6 +7,7 @@ from stillopen.growth import counted
 from stillopen.leastmachines import least_machine
 from stillopen.leaststacks import least
 from stillopen.machines import check_machine, chosen, come_to
+from stillopen.reach import numbered
 from stillopen.stacks import stack_in
 from stillopen.streams import check_prefix
 from stillopen.words import is_number, is_number_below
@@ -59,20 +60,31 @@ def counts_by(machine, depth, *, most):
     return counts_to(least_machine(checked), depth, most=most), tuple(rows)
 
 
+def _many_lots(words):
+    """How many lots of states a words machine has, those of one lot having as many kinds of each depth behind them."""
+    lots = numbered([len(row) for row in words[3]])
+    many = 0
+    while many < max(lots) + 1:
+        many = max(lots) + 1
+        sights = [sorted([lots[behind] for _, behind in row]) for row in words[2]]
+        lots = numbered([(lot, tuple(sight)) for lot, sight in zip(lots, sights)])
+    return many
+
+
 def _first_unlike(words, others):
     """The first depth at which the kinds of a words machine are not the product of those of others, None if at none.
 
-    Both are sums of parts of powers of a matrix; if they are alike at as many depths as these have states together,
-    they are alike for ever.
+    Both are sums of parts of powers of a matrix, by lots; if they are alike at as many depths as this has rows, they
+    are alike for ever.
     """
-    states = 1
+    rows_many = 1
     for other in others:
-        states = states * other[0]
-    states += words[0]
+        rows_many = rows_many * _many_lots(other)
+    rows_many += _many_lots(words)
     begun = 0
     depth = 1
-    while begun < states:
-        last = min(depth, states) - 1
+    while begun < rows_many:
+        last = min(depth, rows_many) - 1
         kinds = counted(words, last)
         rows = [counted(other, last) for other in others]
         for at in range(begun, last + 1):

@@ -78,7 +78,7 @@ def _gaps(machine, signs):
     idle = Idle(machine)
     levels = depths(signs)
     stack = (machine[2][1],)
-    gaps = []
+    found = []
     at = 0
     while at < len(signs):
         stack = behind_sign(machine, stack, signs[at])
@@ -90,8 +90,8 @@ def _gaps(machine, signs):
                 stack = behind_sign(machine, stack, signs[at])
                 at += 1
             if at > first:
-                gaps.append((first, at, levels[first] - level))
-    return gaps
+                found.append((first, at, levels[first] - level))
+    return found
 
 
 def gaps(machine, stream):

@@ -9,7 +9,6 @@ from stillopen.machineforms import is_answer
 from stillopen.machines import check_machine
 from stillopen.stacks import stack_in
 from stillopen.streams import check_prefix
-from stillopen.suredepths import at_depth, by_depth, shortest_table
 from stillopen.words import is_number
 
 
@@ -40,26 +39,31 @@ def earliest(machine, prefix):
     return None
 
 
+def _sure_at_all(machine):
+    """Ascending the answers of which some stack is sure that a prefix leads to, whatever its depth."""
+    # What is sure stays so behind openings, and behind closings: so stacks of all depths are sure of the same answers.
+    ends = Ends(machine)
+    told = [ends.sure((state,)) for state in ends.top_states]
+    return tuple(sorted(set([answer for answer in told if answer is not None])))
+
+
 def sure_answers(machine, depth):
     """Ascending the answers of which some stack of a depth, that a prefix leads to, is sure."""
     checked = check_machine(machine)
     if not is_number(depth):
         raise Refused(depth)
-    return at_depth(Ends(checked), depth)
+    return _sure_at_all(checked)
 
 
 def sure_table(machine):
     """(ahead, again): by depth what sure_answers tells, first ahead, then again and again."""
-    rows, first = by_depth(Ends(check_machine(machine)))
-    return shortest_table(rows, first)
+    return (), (_sure_at_all(check_machine(machine)),)
 
 
 def open_count(machine, depth, *, most):
     """How many kinds of stacks of a depth are open."""
     checked = check_machine(machine)
-    if not is_number(depth):
-        raise Refused(depth)
-    return count(checked, depth, most=most) - len(at_depth(Ends(checked), depth))
+    return count(checked, depth, most=most) - len(_sure_at_all(checked))
 
 
 def answer_in(machine, value):
@@ -77,10 +81,10 @@ def _least_inward(ends):
 
     def going_on(lot, done):
         """The offers of lots of one level more, outwards."""
-        more, signs = done[lot]
-        return [(cost + more, ends.inner_lot(lot, state), ahead + signs) for state, cost, ahead in begun]
+        many, signs = done[lot]
+        return [(many + more, ends.inner_lot(lot, outer), ahead + signs) for outer, more, ahead in begun]
 
-    return least_told([(cost, ends.inner_lot(None, state), ahead) for state, cost, ahead in begun], going_on)
+    return least_told([(more, ends.inner_lot(None, inner), row) for inner, more, row in begun], going_on)
 
 
 def shortest_sure(machine, answer):

@@ -171,6 +171,39 @@ class Right(Case):
             self.assertTuples(told)
         self.assertTrue(60 < found < 199)
 
+    def test_few_texts_or_few_elements(self):
+        # The answer turns behind so many texts, or so many elements in which so many nodes stand.
+        for texts in range(1, 7):
+            for elements in range(1, 4):
+                for within in range(3):
+                    for is_deep in (False, True):
+                        self.check_counting(texts, elements, within, is_deep)
+
+    def check_counting(self, texts, elements, within, is_deep):
+        """Of a machine that counts both, and a ladder that never says yes; elements are those of other labels than a."""
+        many = texts + elements
+        by_text = tuple(min(state + 1, texts) if state < texts else state for state in range(texts + 1))
+        top_text = by_text + tuple(range(texts + 1, many))
+        ends = [0] + list(range(texts + 1, many)) + [texts]
+        top_child = tuple(ends[ends.index(state) + 1] if state in ends[:-1] else state for state in range(many))
+        same = tuple(range(many))
+        # Inner rows count texts, or elements that are counted themselves, up to so many; in an a nothing is counted.
+        count = tuple(min(state + 1, within) for state in range(within + 1)) + (within + 1,)
+        rest = tuple(range(within + 2))
+        children = [rest] * (within + 2)
+        if is_deep:
+            children[0] = count
+        inner_text = rest if is_deep else count
+        tops = (many, 0, (top_text,), tuple(top_child if state == within else same for state in range(within + 2)),
+                tuple((state == texts,) for state in range(many)))
+        machine = (("a",), (), tops, (within + 2, (within + 1, 0), (inner_text,), tuple(children)))
+        silent = (("a",), (), 0, tuple((1, ((0,),), ((0,), (0,)) if level < 3 else (), (0,) if level > 0 else ())
+                                       for level in range(4)), ((False,),))
+        node = 2 if is_deep else 1
+        told = ladder_apart(machine, silent)
+        self.assertTrue(answer(machine, told)[0])
+        self.assertEqual(len(plain_signs(told)), min(texts, elements * (2 + node * within)))
+
     def test_refused(self):
         many = with_part(4, ((True, True),))
         self.assertFails(Refused, many, ladder_apart, HAS, many)

@@ -194,8 +194,17 @@ class EditedRows(Case):
         self.assertFails(Refused, (CLOSE, OPEN), edited.answer)
         self.assertEqual(Edited(ONE, ()).made, 0)
 
+    def check_balanced(self, tree):
+        """So that no edit puts together more often than is told, whatever was edited ahead."""
+        if tree is not None and tree[3] is not None:
+            self.assertLessEqual(abs(tree[3][0] - tree[4][0]), 1)
+            self.assertEqual(tree[:2], (max(tree[3][0], tree[4][0]) + 1, tree[3][1] + tree[4][1]))
+            self.check_balanced(tree[3])
+            self.check_balanced(tree[4])
+
     def check_all(self, machine, edited, signs):
         """All is as of these signs, read anew."""
+        self.check_balanced(edited.tree)
         self.assertEqual((edited.many(), edited.all_signs()), (len(signs), signs))
         self.assertEqual(edited.whole(), piece_plainly(machine, signs))
         level, is_stream = 0, True

@@ -87,6 +87,8 @@ class Readers(Case):
             self.assertFails(Refused, value, reader_apart, HAS, value)
             self.assertFails(Refused, value, is_right, HAS, value)
             self.assertFails(Refused, value, reader_kinds, HAS, value, None, most=1)
+        four = ((), (), 4, 0, ((0, 1, 2, 3),), ((0, 1, 2, 3),), (0, 1, 2, 3), ((True,),) * 4)
+        self.assertFails(Refused, four, check_reader, four)
         great = (tuple("abcdef"), ("", "a", "b", "c"), 3, 2, ((0, 1, 2),) * 7, ((2, 1, 0),) * 5, (1, 1, 1), ((True,) * 8,) * 3)
         self.assertEqual(check_reader(great), great)
 

@@ -98,7 +98,7 @@ class Parts(Case):
         # Inner state 2 and top state 2 are not come to.
         lost = ((), (), (3, 0, ((1, 0, 2),), ((0, 1, 2),) * 3, ((True,), (False,), (True,))),
                 (3, (0,), ((1, 0, 2),), ((0, 1, 2),) * 3))
-        for stack in ((), None, (3,), (0, 3), (True,), "0", (2,), (0, 2), (2, 0), [1, 0, 2]):
+        for stack in ((), None, (3,), (0, 3), (True,), "0", (2,), (0, 2), (2, 0), [0, 2], [1, 0, 2]):
             self.assertFails(Refused, stack, kinds_by, lost, stack)
         for stack in ((), None, (3,), (0, 3), (True,), "0"):
             self.assertFails(Refused, stack, sure_parts, lost, stack)

@@ -16,7 +16,7 @@ from stillopen.sure import (
 )
 from given import (
     ANY_VALUES, HAS, ONE, Case, any_machines, any_stack, as_lists, documents_of, endings_plainly, ordered_machine, seeded,
-    signs_for, some_machine, some_prefix, step_plainly,
+    signs_for, some_machine, some_prefix, some_questions, step_plainly,
 )
 
 # Behind a text, and no element, the answer can still turn; behind an element it is sure.
@@ -188,6 +188,18 @@ class Where(Case):
                 if wanted is not None or len(told) <= 5:
                     self.assertEqual(len(told), wanted)
         self.assertTrue({0, 1, 2} <= lengths)
+
+    def test_questions(self):
+        lengths = set()
+        for _, _, machine in some_questions(60, 352, 4, 4):
+            for words in itertools.product((False, True), repeat=len(machine[2][4][0])):
+                told = shortest_sure(machine, words)
+                wanted = self.shortest(machine, words, signs_for(machine), 6)
+                if told is not None:
+                    self.assertEqual(sure(machine, stack_of(machine, told)), words)
+                    lengths.add(len(told))
+                self.assertEqual(wanted, len(told) if told is not None and len(told) <= 6 else None)
+        self.assertTrue({0, 1, 2, 3} <= lengths)
 
     def shortest(self, machine, words, signs, most):
         """How many signs, at most so many, the shortest prefix has that is sure of an answer."""
